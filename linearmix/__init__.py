@@ -1,0 +1,1 @@
+"""Classes with mixins in one order, givens found by search, kinds as parts of things."""
