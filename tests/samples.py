@@ -126,7 +126,7 @@ FULL = (
         ("object", "nemo", (("Cod", (INT,), (("text", "nemo"), ("int", 5))),), ()),
         ("given", "showInt", (("A", "", ("with", (ANY, INT))),), (("w", ("var", "A")),),
          ("of", "Fish", (INT, INT)), ("name", "w")),
-        ("extend", "more", (("A", "", ANY),), ("x", ("var", "A")), (("w", INT),),
+        ("extend", "extra", (("A", "", ANY),), ("x", ("var", "A")), (("w", INT),),
          (("def", "plus", (("B", "", ANY),), (("y", INT, False),), (), INT,
            ("op", "+", ("name", "x"), ("name", "y"))),)),
     ),
@@ -161,7 +161,7 @@ FULL_TEXT = (
     "(object nemo ((Cod ((int)) ((text \"nemo\") (int 5)))) ()) "
     "(given showInt ((A -0 (with ((any) (int))))) ((w (var A))) "
     "(of Fish ((int) (int))) (name w)) "
-    "(extend more ((A -0 (any))) (x (var A)) ((w (int))) "
+    "(extend extra ((A -0 (any))) (x (var A)) ((w (int))) "
     "((def plus ((B -0 (any))) ((y (int) no)) () (int) (op + (name x) (name y)))))) "
     "(let a none0 (new ((Cod ((int)) ((text \"a b\") (int 12))) (Loud () ()))) "
     "(let b (int) (call (name a) eat ((int)) ((int 1)) ((int 2))) "

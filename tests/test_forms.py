@@ -60,6 +60,14 @@ class AnyObjectTest(FormTest):
         for broken in with_more(FULL):
             self.no(broken)
 
+    def test_none_stands_where_it_may_alone(self):
+        places = set()
+        for owner, at, program in with_nones(FULL):
+            if is_program(program):
+                places.add((owner[0], at))
+        self.assertEqual(places, {("kind", 3), ("val", 3), ("def", 6), ("let", 2), ("call", 3),
+                                  ("call", 5), ("super", 2), ("super", 4)})
+
     def test_by_the_name_of_the_interface(self):
         self.assertIs(is_program(thing=FULL), True)
 
@@ -71,6 +79,15 @@ def with_lists(tree):
         if isinstance(part, tuple):
             for broken in with_lists(part):
                 yield tree[:at] + (broken,) + tree[at + 1:]
+
+
+def with_nones(tree):
+    """(tuple, place, program) for each place of each tuple with None put there."""
+    for at, part in enumerate(tree):
+        yield tree, at, tree[:at] + (None,) + tree[at + 1:]
+        if isinstance(part, tuple):
+            for inner, place, broken in with_nones(part):
+                yield inner, place, tree[:at] + (broken,) + tree[at + 1:]
 
 
 def with_more(tree):
@@ -266,6 +283,7 @@ class TreesTest(FormTest):
             ("call", UNIT, "a", None, None, None), ("call", UNIT, "a", None, ()),
             ("call", None, "a", None, (), None), ("call", UNIT, "a", (), UNIT, ()),
             ("call", UNIT, "a", (), (None,), ()), ("call", UNIT, "a", (), (), (None,)),
+            ("call", UNIT, "a", (), (), (UNIT, None)),
             ("call", UNIT, "a", False, (), None), ("call", UNIT, "a", None, (), 0),
             ("call", UNIT, "a", (UNIT, 1), (), None), ("call", UNIT, "a", None, (INT,), None),
             ("super", "a", None, None, None), ("super", UNIT, "a", None, (), None),
@@ -550,6 +568,7 @@ class UnlikeNamesTest(FormTest):
                     a_class(vparams=(("f", INT),), members=(a_def("f"),)),
                     a_class(members=(a_def("f"), ("lazy", "f", INT, UNIT))),
                     a_trait(members=(a_def("f"), a_def("g"), a_def("f"))),
+                    a_trait(members=(("kind", "K", ANY, None), ("kind", "K", ANY, INT))),
                     an_object(members=(("given", "a", INT, UNIT), ("val", "a", INT, None))),
                     an_extension(members=(a_def("f"), a_def("f")))):
             self.no(with_definitions(one))

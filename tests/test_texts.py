@@ -205,7 +205,8 @@ class WordsTest(TextTest):
                        "(((given g ((K @-00", "(() (let a @m", "(() (let a @none00", "(() (name @A",
                        "(() (name @a_", "(() (name @1", "(() (name @-", "(() (name @abcdefghijklm",
                        "(() (summon (var @a", "(() (summon (var @5", "(() (summon (of @+",
-                       "(() (summon (part (@This", "(() (new ((@a", "(((class @a", "(((object @A"):
+                       "(() (int @00", "(() (int @-0", "(() (int @-01", "(() (int @" + "9" * 61,
+                       "(() (int @1a", "(() (summon (part (@This", "(() (new ((@a", "(((class @a", "(((object @A"):
             self.told_at_sign(marked)
 
     def test_names(self):
@@ -258,7 +259,7 @@ class WordsTest(TextTest):
         self.told_at_sign("(() (int @- 5))")
 
     def test_texts(self):
-        for text in ("", " ", "a  b", "(", ")", "yes", "-0", "'", "a" * 40):
+        for text in ("", " ", "~", "a  b", "(", ")", "yes", "-0", "'", "a" * 40):
             self.assertEqual(read_program('(() (text "' + text + '"))'), with_main(("text", text)))
             self.assertEqual(read_program('(() (stop "' + text + '"))'), with_main(("stop", text)))
             self.told_at_end('(() (text "' + text)
