@@ -130,7 +130,7 @@ class TextSource:
         self.at += 1
 
     def atom(self, sort, taken):
-        """The atom that is next; one that the end cuts off is told by the end."""
+        """The atom that is next; if the end cuts it off, the end is told, not the atom."""
         shape, _, word = self.tokens[self.at]
         if self.is_cut_start(sort, taken):
             raise BadText(self.tokens[-1][1])

@@ -37,7 +37,7 @@ class TreeSource:
         self.places.pop()
 
     def atom(self, sort, taken):
-        """The atom that is next; an empty str is none that is missing."""
+        """The atom that is next, which has to be of the sort and not taken."""
         if self.is_over():
             self.fail()
         thing = self.tuples[-1][self.places[-1]]

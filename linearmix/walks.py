@@ -6,7 +6,7 @@ from linearmix.grammar import FORM_SORTS, FORMS, LISTS, OPTIONS, ROWS
 def sorts_in(sort, thing):
     """The sorts of the parts of a tuple, one for each, the word ahead left out."""
     if sort in LISTS:
-        first, further, _, _ = LISTS[sort]
+        first, further = LISTS[sort][:2]
         return [further if at else first for at in range(len(thing))]
     if sort in ROWS:
         return list(ROWS[sort])
