@@ -32,10 +32,14 @@ def size_of(program):
 def renamed(program, name, other):
     """The program with another name for one of its definitions."""
     need_program(program)
+    if not is_name(name):
+        raise NoName("the object is no name")
+    if not is_name(other):
+        raise BadName("the other object is no name")
     if name not in [definition[1] for definition in program[0]]:
         raise NoName("no definition of the program has this name")
-    if not is_name(other) or is_big(other) != is_big(name):
-        raise BadName("the other name is no name of the same sort of first letter")
+    if is_big(other) != is_big(name):
+        raise BadName("the other name is of another sort of first letter")
     if other in all_names(program):
         raise Clash("the other name stands in the program")
     return with_other_name(program, name, other)

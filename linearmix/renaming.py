@@ -22,7 +22,7 @@ REACH = {
     ("tree", "fun"): ((0, 1),),
     ("case", ""): ((0, 1),),
     ("definition", "class"): ((2, 3),),
-    ("definition", "given"): ((2, 3), (2, 4)),
+    ("definition", "given"): ((2, 4),),
     ("definition", "extend"): ((2, 3), (2, 4), (3, 4)),
     ("member", "def"): ((2, 3), (2, 4), (2, 5), (3, 4), (3, 5)),
     ("extended member", "def"): ((2, 3), (2, 4), (2, 5), (3, 4), (3, 5)),

@@ -150,7 +150,9 @@ class RenamedErrorsTest(RenamedTest):
     def test_the_sequence(self):
         self.raises(NoName, self.program, "Eel", "eel")
         self.raises(NoName, self.program, "Eel", "Cod")
-        self.raises(NoName, self.program, "Eel", "this")
+        self.raises(BadName, self.program, "Eel", "this")
+        self.raises(BadName, self.program, "Eel", 7)
+        self.raises(NoName, self.program, "this", "this")
         self.raises(NoName, self.program, 5, 5)
         self.raises(BadName, self.program, "Cod", "size")
 
@@ -402,7 +404,7 @@ class RenamedObjectTest(RenamedTest):
         here, there = path_kind("o"), ("name", "o")
         self.same_but_x(lambda x: ((a_given(
             kparams=(("K", "", path_kind(x)),), wants=(("w", path_kind(x)), ("o", path_kind(x)), ("z", here)),
-            kind=here, e=there),), UNIT))
+            kind=path_kind(x), e=there),), UNIT))
         self.same_but_x(lambda x: ((a_given(
             wants=(("w", path_kind(x)),), kind=path_kind(x), e=("name", x)),), UNIT))
 
