@@ -65,6 +65,12 @@ class Scope:
         other.uppers[name] = kind
         return other
 
+    def without_names(self):
+        """The same without names, but for objects."""
+        other = self.copied()
+        other.reach = {}
+        return other
+
     def with_phantom(self, inner, kind):
         """The same with something that only inner paths lead to."""
         other = self.copied()
