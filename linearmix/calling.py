@@ -1,7 +1,6 @@
 """Calls of defs, also by super, and of extensions: what they take, need and give (point 18)."""
 
 from linearmix.bridge import Bridge
-from linearmix.evidence import outward_evidence
 from linearmix.faults import Fault
 from linearmix.foundtree import Found
 from linearmix.holding import FREE, Choice, freed
@@ -42,7 +41,7 @@ class Calling:
 
     def arg(self, at, wanted):
         """The found arg of a number."""
-        return self.finder.find(self.worths[at], wanted, self.scope, self.where + (self.first + at,))
+        return self.finder.seek(self.worths[at], wanted, self.scope, self.where + (self.first + at,))
 
     def given_where(self, at):
         """The where of the written given of a number."""
@@ -50,7 +49,7 @@ class Calling:
 
     def given(self, at, wanted):
         """The found written given of a number."""
-        return self.finder.find(self.givens[at], wanted, self.scope, self.given_where(at))
+        return self.finder.seek(self.givens[at], wanted, self.scope, self.given_where(at))
 
     def need_numbers(self, callee):
         """Raises a fault, if there is another number of anything than is taken."""
@@ -65,12 +64,16 @@ class Calling:
         """The kinds that are written, with inner names, looked at."""
         kinds = [self.scope.inward(kind) for kind in self.kinds]
         look_at_kinds(self.scope, kinds, self.where)
+        self.need_uppers(callee, kinds)
+        return tuple(kinds)
+
+    def need_uppers(self, callee, kinds):
+        """Raises a fault, if one of the kinds for what is called is not below its upper."""
         bridge = callee.bridge.copied()
         bridge.table.update(table_of(callee.kparams, kinds))
         for (_, upper), kind in zip(callee.kparams, kinds):
             if not is_lower(bridge.scope, kind, bridge.told(upper)):
                 raise Fault("upper", self.where)
-        return tuple(kinds)
 
     def stand_early(self, callee, bridge):
         """Lets the wants stand that kinds of params may name."""
@@ -117,9 +120,7 @@ class Calling:
     def found(self, e, callee, ahead, wanted):
         """The found tree of the call; ahead is what stands in it ahead of the args."""
         self.need_numbers(callee)
-        kinds = () if self.kinds is None else self.written_kinds(callee)
-        if self.kinds is None and callee.kparams:
-            kinds = self.chosen_kinds(callee, wanted)
+        kinds = self.finder.kinds_for(self, callee, wanted)
         bridge = callee.bridge.copied()
         bridge.table.update(table_of(callee.kparams, kinds))
         self.stand_early(callee, bridge)
@@ -134,7 +135,7 @@ class Calling:
             want = bridge.told(kind)
             path = None
             if self.givens is None:
-                evidences.append(outward_evidence(self.finder.search(want, self.scope, self.where)))
+                evidences.append(self.finder.evidence(want, self.scope, self.where, at))
                 searches.append((self.scope, want))
             else:
                 parts.append(self.given(at, want))
@@ -150,7 +151,7 @@ class Calling:
 def find_call(finder, e, wanted, scope, where):
     """The found tree of a call of a def of what is called on, or of an extension."""
     _, on, name, kinds, worths, givens = e
-    got = finder.find(on, None, scope, where + (0,))
+    got = finder.seek(on, None, scope, where + (0,))
     home = home_of(scope, got.kind, name, ())
     if home is None:
         callee = extension_callee(finder, got, name, scope, where)
@@ -204,7 +205,9 @@ def extension_callee(finder, got, name, scope, where):
     at = winner(scope, [Candidate(view.name, view.kparams, [], view.kind, 0) for view, _ in fits])
     if at is None:
         raise Fault("ambiguous", where)
-    return def_of_extension(fits[at][0], fits[at][1], name, Bridge(scope, where), got.path)
+    view, kinds = fits[at]
+    kinds = finder.extension_kinds(view, kinds, got, scope, where)
+    return def_of_extension(view, kinds, name, Bridge(scope, where), got.path)
 
 
 def chosen_by(scope, view, kind):

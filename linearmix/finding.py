@@ -16,8 +16,9 @@ from linearmix.standing import look_at_kinds
 
 # For each word of an op what is wanted of both, and what it is.
 OPS = {
-    "+": (INT, INT), "-": (INT, INT), "*": (INT, INT), "<": (INT, TRUTH),
-    "=": (ANY, TRUTH), "and": (TRUTH, TRUTH), "or": (TRUTH, TRUTH), "join": (TEXT, TEXT),
+    "+": (("int",), ("int",)), "-": (("int",), ("int",)), "*": (("int",), ("int",)),
+    "<": (("int",), ("truth",)), "=": (("any",), ("truth",)), "and": (("truth",), ("truth",)),
+    "or": (("truth",), ("truth",)), "join": (("text",), ("text",)),
 }
 
 SEARCH_WORDS = {"none": "given", "ambiguous": "ambiguous", "endless": "endless"}
@@ -52,7 +53,7 @@ def find_name(finder, e, wanted, scope, where):
         return found
     binding = scope.bound[inner]
     found = Found(e, visible(scope, binding.kind, where), [], ())
-    if binding.sort == "value":
+    if binding.how == "value":
         found.path = (inner,)
     return found
 
@@ -66,7 +67,7 @@ def find_this(finder, e, wanted, scope, where):
 
 def find_val(finder, e, wanted, scope, where):
     """A val, a lazy, a given or a vparam of what is read from."""
-    got = finder.find(e[1], None, scope, where + (0,))
+    got = finder.seek(e[1], None, scope, where + (0,))
     home = home_of(scope, got.kind, e[2], ())
     if home is None:
         raise Fault("name", where)
@@ -101,7 +102,7 @@ def find_fun(finder, e, wanted, scope, where):
         inner = inner.with_name(name, "value", kind)
     head = ANY if wanted is None else same_at_head(scope, wanted)
     result = head[2] if head[0] == "fun" and len(head[1]) == len(kinds) else None
-    got = finder.find(e[2], entering(result, inner, where), inner, where + (0,))
+    got = finder.seek(e[2], finder.entering(result, inner, where), inner, where + (0,))
     if result is None:
         result = leaving(got.kind, inner, scope, where)
     return Found(e, ("fun", kinds, result), [got], ())
@@ -109,22 +110,22 @@ def find_fun(finder, e, wanted, scope, where):
 
 def find_apply(finder, e, wanted, scope, where):
     """An apply of a fun."""
-    got = finder.find(e[1], None, scope, where + (0,))
+    got = finder.seek(e[1], None, scope, where + (0,))
     kind = stripped(scope, got.kind)
     if kind[0] != "fun":
         raise Fault("name", where)
     if len(kind[1]) != len(e[2]):
         raise Fault("arguments", where)
     kind = visible(scope, kind, where)
-    parts = [finder.find(worth, kind[1][at], scope, where + (1 + at,))
+    parts = [finder.seek(worth, kind[1][at], scope, where + (1 + at,))
              for at, worth in enumerate(e[2])]
     return Found(e, kind[2], [got] + parts, ())
 
 
 def find_if(finder, e, wanted, scope, where):
     """An if."""
-    first = finder.find(e[1], TRUTH, scope, where + (0,))
-    ways = [finder.find(e[2 + at], wanted, scope, where + (1 + at,)) for at in range(2)]
+    first = finder.seek(e[1], TRUTH, scope, where + (0,))
+    ways = [finder.seek(e[2 + at], wanted, scope, where + (1 + at,)) for at in range(2)]
     kind = kind_of_all([way.kind for way in ways], wanted, scope, where)
     return Found(e, kind, [first] + ways, ())
 
@@ -140,19 +141,19 @@ def kind_of_all(kinds, wanted, scope, where):
 def find_let(finder, e, wanted, scope, where):
     """A let, a lazy, or a given of a let."""
     own = None if e[2] is None else scope.inward(e[2])
-    first = finder.find(e[3], own, scope, where + (0,))
-    sort = "lazy" if e[0] == "lazy" else "value"
-    inner = scope.with_name(e[1], sort, first.kind if own is None else own)
+    first = finder.seek(e[3], own, scope, where + (0,))
+    how = "lazy" if e[0] == "lazy" else "value"
+    inner = scope.with_name(e[1], how, first.kind if own is None else own)
     if e[0] == "given":
         inner = inner.with_let_given(e[1])
-    rest = finder.find(e[4], entering(wanted, inner, where), inner, where + (1,))
+    rest = finder.seek(e[4], finder.entering(wanted, inner, where), inner, where + (1,))
     kind = leaving(rest.kind, inner, scope, where) if wanted is None else wanted
     return Found(e, kind, [first, rest], ())
 
 
 def find_match(finder, e, wanted, scope, where):
     """A match."""
-    parts = [finder.find(e[1], None, scope, where + (0,))]
+    parts = [finder.seek(e[1], None, scope, where + (0,))]
     kinds = []
     more = []
     for at, (pattern, worth) in enumerate(e[2]):
@@ -160,7 +161,8 @@ def find_match(finder, e, wanted, scope, where):
         inner = scope
         for name, kind in names:
             inner = inner.with_name(name, "value", kind)
-        parts.append(finder.find(worth, entering(wanted, inner, where), inner, where + (1 + at,)))
+        aim = finder.entering(wanted, inner, where)
+        parts.append(finder.seek(worth, aim, inner, where + (1 + at,)))
         if wanted is None:
             kinds.append(leaving(parts[-1].kind, inner, scope, where))
         more.append(tuple([(name, outward(kind)) for name, kind in names]))
@@ -170,34 +172,28 @@ def find_match(finder, e, wanted, scope, where):
 def find_summon(finder, e, wanted, scope, where):
     """A summon of the given for a kind."""
     kind = scope.inward(e[1])
-    evidence = finder.search(kind, scope, where)
-    found = Found(e, kind, [], outward_evidence(evidence))
+    found = Found(e, kind, [], finder.evidence(kind, scope, where, None))
     found.searches.append((scope, kind))
     return found
 
 
 def find_show(finder, e, wanted, scope, where):
     """A show."""
-    return Found(e, UNIT, [finder.find(e[1], None, scope, where + (0,))], ())
+    return Found(e, UNIT, [finder.seek(e[1], None, scope, where + (0,))], ())
 
 
 def find_then(finder, e, wanted, scope, where):
     """A then."""
-    first = finder.find(e[1], None, scope, where + (0,))
-    second = finder.find(e[2], wanted, scope, where + (1,))
+    first = finder.seek(e[1], None, scope, where + (0,))
+    second = finder.seek(e[2], wanted, scope, where + (1,))
     return Found(e, second.kind if wanted is None else wanted, [first, second], ())
 
 
 def find_op(finder, e, wanted, scope, where):
     """An op."""
     operand, kind = OPS[e[1]]
-    parts = [finder.find(e[2 + at], operand, scope, where + (at,)) for at in range(2)]
+    parts = [finder.seek(e[2 + at], operand, scope, where + (at,)) for at in range(2)]
     return Found(e, kind, parts, ())
-
-
-def entering(wanted, inner, where):
-    """A wanted kind as it goes on to where something more is in reach."""
-    return None if wanted is None else visible(inner, wanted, where)
 
 
 def leaving(kind, inner, outer, where):
@@ -235,14 +231,14 @@ class Finder:
         self.makers = makers
         self.kept = {}
 
-    def find(self, e, wanted, scope, where):
+    def seek(self, e, wanted, scope, where):
         """The found tree of an expression, below a wanted kind if that is not None."""
         place = (where, repr(wanted))
         if place not in self.kept:
-            self.kept[place] = self.find_anew(e, wanted, scope, where)
+            self.kept[place] = self.seek_anew(e, wanted, scope, where)
         return self.kept[place]
 
-    def find_anew(self, e, wanted, scope, where):
+    def seek_anew(self, e, wanted, scope, where):
         """The same, not yet found."""
         look_at_kinds(scope, [scope.inward(kind) for kind in written_kinds(e)], where)
         work = FINDERS[e[0]]
@@ -254,16 +250,30 @@ class Finder:
     def path_of(self, e, scope, where):
         """The path that an expression is; None if it is none, or is not right."""
         try:
-            return self.find(e, None, scope, where).path
+            return self.seek(e, None, scope, where).path
         except Fault:
             return None
 
-    def search(self, kind, scope, where):
-        """The evidence for a kind, or the fault that there is no one."""
-        word, told = Searcher(scope, None).result(kind)
+    def entering(self, wanted, inner, where):
+        """A wanted kind as it goes on to where something more is in reach."""
+        return None if wanted is None else visible(inner, wanted, where)
+
+    def kinds_for(self, calling, callee, wanted):
+        """The kinds for the kind parameters of what is called: those written, or chosen."""
+        if calling.kinds is not None:
+            return calling.written_kinds(callee)
+        return calling.chosen_kinds(callee, wanted) if callee.kparams else ()
+
+    def extension_kinds(self, view, kinds, got, scope, where):
+        """The kinds for the kind parameters of an extension: those chosen."""
+        return kinds
+
+    def evidence(self, kind, scope, where, at):
+        """The evidence for a kind, or the fault that there is no one; at is a want's number."""
+        word, told = Searcher(scope, None).outcome(kind)
         if word != "found":
             raise Fault(SEARCH_WORDS[word], where)
-        return told
+        return outward_evidence(told)
 
     def vparam_arg(self, kind, at, e, scope, where, arg_where):
         """The found arg for a vparam of the class of a kind, told at where if it leaves."""
@@ -271,11 +281,11 @@ class Finder:
         entry = scope.model.classes[kind[1]]
         bridge.table = table_of(entry.kparams, kind[2])
         bridge.stand("this", None, kind)
-        return self.find(e, bridge.told(entry.vparams[at][1]), scope, arg_where)
+        return self.seek(e, bridge.told(entry.vparams[at][1]), scope, arg_where)
 
     def find_body(self, body):
         """The found tree of a body."""
         if body.parent is not None:
             where = body.where[:1]
             return self.vparam_arg(body.parent, body.number, body.e, body.scope, where, body.where)
-        return self.find(body.e, entering(body.wanted, body.scope, body.where), body.scope, body.where)
+        return self.seek(body.e, self.entering(body.wanted, body.scope, body.where), body.scope, body.where)

@@ -16,7 +16,7 @@ class Seen:
         self.home = home
         self.owner = owner
 
-    def kind(self, kind):
+    def seen_as(self, kind):
         """A kind that stands in the class, as it is seen."""
         return seen_kind(self.scope.model, self.home, self.owner, kind, None)
 
@@ -47,8 +47,8 @@ def name_holds(scope, home, owners, name):
 
 def kinds_hold(scope, rows):
     """Whether kind members of one name agree."""
-    uppers = [seen.kind(member[2]) for seen, member in rows]
-    kinds = [seen.kind(member[3]) for seen, member in rows if member[3] is not None]
+    uppers = [seen.seen_as(member[2]) for seen, member in rows]
+    kinds = [seen.seen_as(member[3]) for seen, member in rows if member[3] is not None]
     if not all([is_lower(scope, kind, upper) for kind in kinds for upper in uppers]):
         return False
     if not all([is_lower(scope, upper, other) for at, upper in enumerate(uppers)
@@ -64,7 +64,7 @@ def pair_holds(scope, near, far):
         return defs_hold(scope, near, far)
     if form == "lazy" or form == "val" and has_body(near[1]) and has_body(far[1]):
         return False
-    return results_hold(scope, near, far, near[0].kind(near[1][2]), far[0].kind(far[1][2]))
+    return results_hold(scope, near, far, near[0].seen_as(near[1][2]), far[0].seen_as(far[1][2]))
 
 
 def results_hold(scope, near, far, one, other):

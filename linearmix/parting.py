@@ -1,7 +1,7 @@
 """Paths, kind members of what they lead to, and plain kinds (point 14)."""
 
 from linearmix.faults import NoWay
-from linearmix.kindtools import ANY, changed, kinds_in, starts_in, table_of, with_kinds
+from linearmix.kindtools import ANY, changed, kinds_in, table_of, with_kinds
 from linearmix.model import form_of
 
 
@@ -13,7 +13,7 @@ def start_kind(scope, start):
         return scope.this
     if start in scope.bound:
         binding = scope.bound[start]
-        if binding.sort != "value":
+        if binding.how != "value":
             raise NoWay("path")
         return binding.kind
     if scope.model.is_object(start):
@@ -66,7 +66,7 @@ def part_told(scope, part, asked):
     _, path, name = part
     if part in asked:
         raise NoWay("path")
-    if path[0] in scope.bound and scope.bound[path[0]].sort == "unknown":
+    if path[0] in scope.bound and scope.bound[path[0]].how == "unknown":
         return ("upper", ANY)
     inner = asked + (part,)
     home = home_of(scope, path_kind(scope, path, inner), name, inner)
@@ -161,10 +161,3 @@ def same_at_head(scope, kind):
         kind = told[1]
     return kind
 
-
-def without_phantom(scope, kind, phantoms):
-    """A kind made plain, if phantoms stand in it; None if they still do then."""
-    if not any([start in phantoms for start in starts_in(kind)]):
-        return kind
-    told = plain(scope, kind)
-    return None if any([start in phantoms for start in starts_in(told)]) else told

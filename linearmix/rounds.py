@@ -2,7 +2,7 @@
 
 from linearmix.insides import walk
 from linearmix.kindtools import all_kinds, changed
-from linearmix.makers import Makers
+from linearmix.makers import Makers, news_in
 from linearmix.model import NAMELESS
 from linearmix.names_round import definition_faults, tree_faults
 from linearmix.overrides import broken_names
@@ -215,3 +215,31 @@ def first_fault(model):
         if told is not None:
             return told
     return None
+
+
+def fault_in_expression(scope, e):
+    """The first (word, where) of an expression in the rounds ahead of its own; None if none."""
+    orders = []
+    for number in range(4):
+        if number == 3:
+            orders = maker_orders(scope.model, Makers(scope.model, news_in("tree", e)))
+        rows = expression_rows(scope, e, number, orders)
+        if number == 3:
+            rows = rows + bodiless_news(scope, e)
+        told = first_of(as_main(rows))
+        if told is not None:
+            return told
+    return None
+
+
+def bodiless_news(scope, e):
+    """The (where, word) of news in an expression that give some super of the program no body."""
+    rows = []
+    supers = [(reach.this[1], tree[1]) for body in all_bodies(scope.model)
+              for _, tree, reach in walk(body.scope, body.e, body.where) if tree[0] == "super"]
+    for at, tree, _ in walk(scope, e, ()):
+        if tree[0] == "new":
+            order = scope.model.mixed_order([part[0] for part in tree[1]])
+            if any([super_misses(scope.model, [order], name, member) for name, member in supers]):
+                rows.append((at, "super"))
+    return rows

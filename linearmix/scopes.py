@@ -10,10 +10,10 @@ from linearmix.kindtools import all_kinds, changed, starts_in
 
 
 class Binding:
-    """What a name stands for: its sort, its kind, and the path that it is."""
+    """What a name stands for: how it does (value, byname, lazy or unknown), and its kind."""
 
-    def __init__(self, sort, kind):
-        self.sort = sort
+    def __init__(self, how, kind):
+        self.how = how
         self.kind = kind
 
 
@@ -77,14 +77,14 @@ class Scope:
         other.bound[inner] = Binding("value", kind)
         return other
 
-    def with_name(self, name, sort, kind):
-        """The same with a name; sort is value, byname, lazy or unknown."""
+    def with_name(self, name, how, kind):
+        """The same with a name; how is told in Binding."""
         other = self.copied()
         inner = name
         if name in self.bound or self.model.is_object(name):
             inner = name + "~" + str(len(self.bound))
         other.reach[name] = inner
-        other.bound[inner] = Binding(sort, kind)
+        other.bound[inner] = Binding(how, kind)
         return other
 
     def with_let_given(self, name):

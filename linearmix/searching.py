@@ -25,7 +25,7 @@ class Candidate:
         self.kind = kind
         self.nearness = nearness
 
-    def free(self, mark):
+    def freed_by(self, mark):
         """The kind parameters with a mark ahead, and the table that puts them in."""
         table = freed(self.kparams, mark)
         return [(mark + name, changed(upper, table, {})) for name, upper in self.kparams], table
@@ -89,12 +89,12 @@ class Searcher:
         self.levels = levels_at(scope, without)
         self.active = []
         self.used = []
-        self.told = {}
+        self.finished = {}
         self.many = 0
         self.first_kind = None
         self.first_none = None
 
-    def result(self, kind):
+    def outcome(self, kind):
         """What find_given tells of a kind, with inner names."""
         self.first_kind = kind
         try:
@@ -110,15 +110,15 @@ class Searcher:
         worth = plain(self.scope, kind)
         key = repr(worth)
         place = (key, repr(sorted(set(self.active))))
-        if place in self.told:
-            return self.told[place]
+        if place in self.finished:
+            return self.finished[place]
         if len(self.active) == WITHIN_MOST or self.many == SEARCHES_MOST:
             raise Endless(kind)
         self.many += 1
         self.active.append(key)
         told = self.search_levels(kind, worth, key)
         self.active.pop()
-        self.told[place] = told
+        self.finished[place] = told
         return told
 
     def search_levels(self, kind, worth, key):
@@ -193,10 +193,10 @@ def wins(scope, one, other):
 
 def is_as_special(scope, one, other):
     """Whether, by some choice for the other one, its kind is the same as the first one's or above."""
-    rigid, rigid_table = one.free(FREE + FREE)
+    rigid, rigid_table = one.freed_by(FREE + FREE)
     for name, upper in rigid:
         scope = scope.with_upper(name, upper)
-    free, table = other.free(FREE)
+    free, table = other.freed_by(FREE)
     choice = Choice(scope, free)
     return (choice.holds(changed(one.kind, rigid_table, {}), changed(other.kind, table, {}))
             and choice.chosen()[0] == "chosen")
@@ -204,7 +204,7 @@ def is_as_special(scope, one, other):
 
 def chosen_for(scope, candidate, kind):
     """The kinds chosen for a candidate from a plain wanted kind alone; None if it is not of it."""
-    free, table = candidate.free(FREE)
+    free, table = candidate.freed_by(FREE)
     choice = Choice(scope, free)
     if not choice.holds(changed(candidate.kind, table, {}), kind) or not choice.is_noted():
         return None

@@ -12,13 +12,21 @@ INTERFACE = {
                "BadCore", "TooMany", "NothingToUndo", "Full", "BadNumber", "BadCommand"),
     "forms": ("is_program", "names_of", "size_of", "renamed", "moved"),
     "texts": ("write_program", "read_program"),
+    "orders": ("order_of", "order_holds", "disordered", "mixed"),
+    "members": ("members_of", "bodies", "super_of", "lacking"),
+    "checks": ("check", "let_by"),
+    "kinds": ("seen_from", "put_in", "part_of", "plain_kind"),
+    "below": ("is_below", "same_kind", "top_of", "bottom_of", "first_gap", "below_paper",
+              "below_holds", "freest_sign"),
+    "found": ("found", "kind_at", "names_of_pattern", "choose", "tree_right"),
+    "givens": ("find_given", "evidence_holds", "evidence_fits", "all_evidence", "would_change"),
 }
 BUILTINS = """len range enumerate zip min max sum abs sorted reversed int str bool list tuple dict set
 isinstance ord repr any all divmod ValueError KeyError super type""".split()
 METHODS = """append clear copy count endswith extend find get index insert isalnum isalpha isdigit
 islower isspace isupper items join keys ljust lower lstrip partition pop remove replace reverse rfind
 rjust rpartition rsplit rstrip setdefault split splitlines startswith strip update upper values zfill
-bit_length isascii add discard""".split()
+bit_length isascii add discard partition removeprefix""".split()
 STATEMENTS = (ast.Import, ast.ImportFrom, ast.FunctionDef, ast.ClassDef, ast.Assign, ast.Expr, ast.If,
               ast.While, ast.For, ast.Return, ast.Break, ast.Continue, ast.Pass, ast.Raise, ast.Assert,
               ast.AugAssign, ast.Try)
@@ -55,7 +63,7 @@ class LanguageTest(unittest.TestCase):
     def test_imports_come_from_the_package_alone(self):
         for name, node in nodes((ast.Import, ast.ImportFrom)):
             self.assertIsInstance(node, ast.ImportFrom, name)
-            self.assertRegex(node.module, r"^linearmix\.[a-z]+$", name)
+            self.assertRegex(node.module, r"^linearmix\.[a-z_]+$", name)
             home = ast.parse((PACKAGE / (node.module.split(".")[1] + ".py")).read_text())
             for alias in node.names:
                 self.assertIn(alias.name, defined_in(home), name)
@@ -84,7 +92,7 @@ class LanguageTest(unittest.TestCase):
         own = {node.name for _, node in nodes((ast.FunctionDef, ast.ClassDef))}
         for name, node in nodes(ast.Call):
             if isinstance(node.func, ast.Name):
-                self.assertIn(node.func.id, own | set(BUILTINS), (name, node.lineno))
+                self.assertIn(node.func.id, own | set(BUILTINS) | {"work"}, (name, node.lineno))
             elif isinstance(node.func, ast.Attribute):
                 self.assertIn(node.func.attr, own | set(METHODS) | {"__init__"}, (name, node.lineno))
 
@@ -108,6 +116,26 @@ class LanguageTest(unittest.TestCase):
             word = getattr(node, "name", getattr(node, "arg", getattr(node, "id", "")))
             if not isinstance(node, ast.Name) or isinstance(node.ctx, ast.Store):
                 self.assertNotIn(word, taken - {"__init__"}, name)
+
+    def test_no_variable_has_the_name_of_an_import_or_a_class_of_its_file(self):
+        for file in files():
+            tree = ast.parse(file.read_text())
+            taken = {alias.name for node in tree.body if isinstance(node, ast.ImportFrom)
+                     for alias in node.names}
+            taken |= {node.name for node in tree.body if isinstance(node, ast.ClassDef)}
+            for node in ast.walk(tree):
+                if isinstance(node, ast.arg):
+                    self.assertNotIn(node.arg, taken, (file, node.lineno))
+                if isinstance(node, ast.Name) and isinstance(node.ctx, ast.Store):
+                    self.assertNotIn(node.id, taken, (file, node.lineno))
+
+    def test_no_name_is_a_method_and_an_attribute(self):
+        methods = {node.name for _, owner in nodes(ast.ClassDef) for node in owner.body
+                   if isinstance(node, ast.FunctionDef)}
+        for name, node in nodes(ast.Attribute):
+            if isinstance(node.ctx, ast.Store):
+                self.assertNotIn(node.attr, methods, (name, node.lineno))
+                self.assertNotIn(node.attr, set(METHODS) | {"sort", "args", "format"}, (name, node.lineno))
 
     def test_no_name_is_bound_twice_in_a_file(self):
         for file in files():
