@@ -4,7 +4,7 @@ from linearmix.bridge import Bridge
 from linearmix.faults import Fault
 from linearmix.foundtree import Found
 from linearmix.holding import FREE, Choice, freed
-from linearmix.kindtools import changed, table_of
+from linearmix.kindtools import ANY, changed, table_of
 from linearmix.lower import is_lower
 from linearmix.parting import home_of
 from linearmix.scopes import outward
@@ -99,7 +99,8 @@ class Calling:
             if self.givens is not None:
                 self.hold(choice, bridge, self.given(at, None), want, self.given_where(at))
             else:
-                bridge.stand(want[0], None, changed(want[1], bridge.table, bridge.starts))
+                # It notes nothing, but the result may name it.
+                bridge.stand(want[0], None, bridge.told_or_none(want[1]) or ANY)
         if wanted is not None:
             result = bridge.told_or_none(callee.result)
             if result is not None:

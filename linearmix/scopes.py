@@ -118,7 +118,9 @@ class Scope:
         if start == "this":
             return True
         name = plain_name(start)
-        return self.reach.get(name, name) == start
+        if name in self.reach:
+            return self.reach[name] == start
+        return self.model.is_object(start)
 
 
 def plain_name(inner):

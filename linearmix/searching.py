@@ -45,7 +45,7 @@ def levels_at(scope, without):
     levels.append(own_candidates(scope))
     views = [GivenView(scope.model, definition) for definition in scope.model.definitions
              if definition[0] == "given" and definition[1] != without]
-    levels.append([Candidate(view.name, view.kparams, view.wants, view.kind, 0)
+    levels.append([Candidate(view.name, view.kparams, view.wants, visible_kind(scope, view.kind), 0)
                    for view in views if view.name not in taken])
     return [[one for one in level if one.kind is not None] for level in levels]
 
