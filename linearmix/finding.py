@@ -12,6 +12,7 @@ from linearmix.parting import home_of, same_at_head, stripped
 from linearmix.patterns import pattern_names
 from linearmix.scopes import outward
 from linearmix.searching import Searcher
+from linearmix.sites import UNMADE
 from linearmix.standing import look_at_kinds
 
 # For each word of an op what is wanted of both, and what it is.
@@ -88,10 +89,19 @@ def find_val(finder, e, wanted, scope, where):
 def find_new(finder, e, wanted, scope, where):
     """A new of one part, or of more."""
     kinds = [scope.inward(("of", name, inner)) for name, inner, _ in e[1]]
-    parts = [finder.vparam_arg(kinds[0], at, worth, scope, where, where + (at,))
+    parts = [finder.seek(worth, vparam_kind(kinds[0], at, None, scope, where), scope, where + (at,))
              for at, worth in enumerate(e[1][0][2])]
     kind = kinds[0] if len(kinds) == 1 else ("with", tuple(kinds))
     return Found(e, kind, parts, tuple([outward(one) for one in kinds]))
+
+
+def vparam_kind(kind, at, path, scope, where):
+    """The kind of a vparam of the class of a kind, a path put for this, if that is not None."""
+    bridge = Bridge(scope, where)
+    entry = scope.model.classes[kind[1]]
+    bridge.table = table_of(entry.kparams, kind[2])
+    bridge.stand("this", path, kind)
+    return bridge.told(entry.vparams[at][1])
 
 
 def find_fun(finder, e, wanted, scope, where):
@@ -275,17 +285,11 @@ class Finder:
             raise Fault(SEARCH_WORDS[word], where)
         return outward_evidence(told)
 
-    def vparam_arg(self, kind, at, e, scope, where, arg_where):
-        """The found arg for a vparam of the class of a kind, told at where if it leaves."""
-        bridge = Bridge(scope, where)
-        entry = scope.model.classes[kind[1]]
-        bridge.table = table_of(entry.kparams, kind[2])
-        bridge.stand("this", None, kind)
-        return self.seek(e, bridge.told(entry.vparams[at][1]), scope, arg_where)
-
     def find_body(self, body):
         """The found tree of a body."""
-        if body.parent is not None:
-            where = body.where[:1]
-            return self.vparam_arg(body.parent, body.number, body.e, body.scope, where, body.where)
-        return self.seek(body.e, self.entering(body.wanted, body.scope, body.where), body.scope, body.where)
+        if body.parent is None:
+            wanted = self.entering(body.wanted, body.scope, body.where)
+        else:
+            # The object that is being made is not in reach; its class alone is known.
+            wanted = vparam_kind(body.parent, body.number, (UNMADE,), body.scope, body.where[:1])
+        return self.seek(body.e, wanted, body.scope, body.where)
