@@ -93,11 +93,10 @@ class Calling:
         bridge.scope = choice.scope
         self.stand_early(callee, bridge)
         for at, (inner, kind, _) in enumerate(callee.params):
-            found = self.arg(at, None)
-            self.hold(choice, bridge, found, (inner, kind), self.where + (self.first + at,))
+            self.hold(choice, bridge, self.arg(at, None), (inner, kind))
         for at, want in enumerate(callee.wants):
             if self.givens is not None:
-                self.hold(choice, bridge, self.given(at, None), want, self.given_where(at))
+                self.hold(choice, bridge, self.given(at, None), want)
             else:
                 # It notes nothing, but the result may name it.
                 bridge.stand(want[0], None, bridge.told_or_none(want[1]) or ANY)
@@ -110,12 +109,12 @@ class Calling:
             raise Fault(word, self.where)
         return told
 
-    def hold(self, choice, bridge, found, param, where):
+    def hold(self, choice, bridge, found, param):
         """Holds what is found against the kind of a param or want, for which it stands then."""
         inner, kind = param
         wanted = bridge.told(kind)
         if not choice.holds(found.kind, wanted):
-            raise Fault("kind", where)
+            raise Fault("kind", self.where)
         bridge.stand(inner, found.path, wanted)
 
     def found(self, e, callee, ahead, wanted):

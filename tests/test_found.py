@@ -25,6 +25,7 @@ WORLD = program(
               kparams=(kparam("A"), kparam("B"))),
         a_def("fishy", A, name("x"), params=(("x", A),), kparams=(kparam("A", "", FISH),)),
         a_def("nothing", of("Box", A), ("stop", ""), kparams=PARAM_A),
+        a_def("unbox", A, val(name("x"), "v"), params=(("x", of("Box", A)),), kparams=PARAM_A),
         a_def("by", INT, name("n"), params=(("n", INT, True),))),
     trait("Mine", a_def("me", of("Mine"), THIS)))
 SHOP = ((), (("b", of("Box", INT)), ("f", FISH), ("c", COD), ("i", INT), ("g", fun(INT, TEXT)),
@@ -103,6 +104,12 @@ class ExpressionsTest(KindTest):
         self.found(of("Box", NONE), call(tool, "nothing"))
         self.found(of("Box", INT), call(tool, "nothing"), of("Box", INT))
         self.fault("kind", (), call(tool, "nothing"), INT)
+        # What is asked beside is told at the call, behind all that is wrong in the args up to there.
+        self.fault("kind", (), call(tool, "unbox", num(1)))
+        self.fault("kind", (1,), then(num(1), call(tool, "unbox", num(1), givens=())))
+        self.fault("kind", (1, 0), call(tool, "unbox", op("+", text(""), num(1))))
+        self.fault("kind", (1,), call(tool, "unbox", num(1), kinds=(INT,)))
+        self.found(INT, call(tool, "unbox", name("b")))
         self.found(of("Box", TEXT), call(name("b"), "put", text("")))
         # A def's own kind parameter is apart from that of a class that is put in.
         self.found(of("Box", B), call(name("y"), "put", name("x")), place=(
