@@ -262,7 +262,7 @@ PATHS = (
               params=(("x", part("this", "cell", "Thing")),)),
         vparams=(("cell", of("Cell")),)),
     obj("rack", a_val("inner", of("Rack"), new("Rack", new("IntCell", num(1)))),
-        a_val("near", part("rack", "inner", "cell", "Thing"),
+        lazy("near", part("rack", "inner", "cell", "Thing"),
               val(val(val(name("rack"), "inner"), "cell"), "thing")),
         lazy("late", INT, num(4))),
     cls("Wrap", a_kind("Own", ANY, of("Two", A)), a_val("own", part("this", "Own")), kparams=PARAM_A),
