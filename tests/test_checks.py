@@ -169,6 +169,9 @@ class ClassesTest(CheckTest):
     def test_above(self):
         self.told(("above", ("C",)), cls("C", parents=(parent("C"),)))
         self.told(("above", ("T",)), cls("C"), trait("T", parents=(parent("C"),)))
+        ring = (trait("T", a_def("f", INT), parents=(parent("U"),)), trait("U", parents=(parent("T"),)))
+        self.told(("above", ("T",)), cls("C", a_def("f", INT, above("f")), parents=(parent("U"),)), *ring)
+        self.told(("name", ("C", "f")), cls("C", a_def("f", INT, above("g")), parents=(parent("U"),)), *ring)
         self.told(("above", ("D",)), cls("C"), trait("T"), cls("D", parents=(parent("T"), parent("C"))))
         self.told(("above", ("D",)), trait("T"), cls("D", parents=(parent("T"), parent("T"))))
         self.main(("above", ()), new("Fish"), *FISHES)

@@ -141,6 +141,11 @@ class ExpressionsTest(KindTest):
         self.fault("arguments", (), ("apply", name("g"), ()))
         self.fault("name", (), ("apply", name("b"), ()))
         self.found(fun(TEXT), ("fun", (), text("")))
+        world = program(cls("C", a_kind("F", ANY, fun(INT, ANY)), a_kind("G", fun(INT, ANY))),
+                        cls("D", a_kind("G", fun(INT, ANY), fun(INT, ANY)), parents=(parent("C"),)))
+        place = ((), (("c", of("C")),))
+        self.found(fun(INT, ANY), plus, part("c", "F"), world=world, place=place)
+        self.fault("kind", (), plus, part("c", "G"), world=world, place=place)
 
     def test_apply_by_uppers(self):
         world = program(trait("T", a_kind("K", fun(INT, TEXT))), cls("C", a_def(
@@ -441,6 +446,14 @@ class PatternsTest(unittest.TestCase):
         mixed = (world[0], new("Cod", more=("Salt",)))
         self.names(FISH, ("is", "x", "Salt"), ("x", of("Salt")), world=mixed)
         self.bad(of("Pike"), ("is", "x", "Salt"), world=mixed)
+        self.names(ANY, ("is", "x", "Salt"), ("x", of("Salt")), world=mixed)
+        self.names(mix(FISH, COD), ("is", "x", "Salt"), ("x", of("Salt")), world=mixed)
+        self.bad(mix(FISH, INT), ("is", "x", "Salt"), world=mixed)
+        # Of the expression that is handed in, too.
+        e = ("match", name("f"), ((("is", "x", "Salt"), num(1)), (ANY, then(new("Cod", more=("Salt",)), num(2)))))
+        place = ((), (("f", FISH),))
+        self.assertEqual(kind_at(world, place, e, None), ("found", INT))
+        self.assertEqual(kind_at(world, place, e[:2] + (e[2][:1],), None), ("pattern", ()))
 
     def test_of_and_its_patterns(self):
         self.bad(of("List", INT), ("of", "Cons", ()))
@@ -492,7 +505,7 @@ class FoundTest(unittest.TestCase):
             given("gi", INT, num(7))),
             then(("summon", INT), ("match", val(name("pool"), "fish"), (
                 (("is", "c", "Cod"), num(1)), (("bind", "o"), num(2))))))
-        cod = (new("Cod"), COD, (), (COD,))
+        cod = (new("Cod"), COD, (), ((),))
         pool = (name("pool"), of("pool"), (), ())
         fish = (val(name("pool"), "fish"), FISH, (pool,), ())
         match = (one[1][2], INT, (fish, (num(1), INT, (), ()), (num(2), INT, (), ())),
@@ -515,13 +528,19 @@ class FoundTest(unittest.TestCase):
         trees = dict(found(one))
         above_e = FISHES[2][4][0][6][2]
         self.assertEqual(trees[("Loud", "title")][2][0], (above_e, TEXT, (), ("Fish", (), ())))
-        asks = (new("Asks"), of("Asks"), (), (of("Asks"),))
+        asks = (new("Asks"), of("Asks"), (), ((),))
         one_int = (num(1), INT, (), ())
         first, rest = trees[()][2]
         self.assertEqual(first, (one[1][1], INT, (asks, one_int), ("Asks", (INT,), (("gi", (), ()),))))
         two_int = (num(2), INT, (), ())
         self.assertEqual(rest[2][0][2:], ((asks, one_int, two_int), ("Asks", (INT,), (two_int,))))
         self.assertEqual(rest[2][1][3], ("Asks", (INT,), (("gi", (), ()),)))
+
+    def test_of_new_the_kinds_of_its_parts(self):
+        one = (FISHES + (cls("Box", kparams=PARAM_A), trait("Pair", kparams=(kparam("A"), kparam("B"))), trait("Salt")),
+               new("Box", kinds=(INT,), more=("Salt", ("Pair", (COD, TEXT)))))
+        self.assertEqual(found(one)[-1], ((), (one[1], mix(of("Box", INT), of("Salt"), of("Pair", COD, TEXT)), (),
+                                               ((INT,), (), (COD, TEXT)))))
 
     def test_kinds_are_told_as_they_stand(self):
         trees = dict(found(CAGES_PROGRAM))
@@ -593,7 +612,7 @@ class TreeRightTest(unittest.TestCase):
 
     def test_trees_that_are_spoilt_in_one_place(self):
         e = call(name("tool"), "pick", new("Cod"), name("f"))
-        tree = (e, FISH, ((name("tool"), of("tool"), (), ()), (new("Cod"), COD, (), (COD,)), (name("f"), FISH, (), ())),
+        tree = (e, FISH, ((name("tool"), of("tool"), (), ()), (new("Cod"), COD, (), ((),)), (name("f"), FISH, (), ())),
                 ("tool", (FISH,), ()))
         self.assertIs(tree_right(WORLD, SHOP, e, tree), True)
         for thing in spoilt(tree):
@@ -636,6 +655,26 @@ class TreeRightTest(unittest.TestCase):
         e = then(c[0], n[0])
         self.assertIs(tree_right(WORLD, SHOP, e, (e, ANY, (c, n), ())), True)
         self.assertIs(tree_right(WORLD, SHOP, e, (e, TEXT, (c, n), ())), False)
+
+    def test_kinds_of_extensions_that_are_chosen_otherwise(self):
+        one = program(*FISHES, extend("ex", ("x", A), a_def("me", A, name("x")), kparams=(kparam("A", "", FISH),)))
+        place = ((), (("c", COD),))
+        e = call(name("c"), "me")
+        c = (name("c"), COD, (), ())
+        self.assertEqual(kind_at(one, place, e, None), ("found", COD))
+        for kind, right in ((COD, True), (FISH, True), (ANY, False), (PIKE, False), (NONE, False)):
+            self.assertIs(tree_right(one, place, e, (e, kind, (c,), ("extend", "ex", (kind,), (), ()))), right)
+        for more in (("extend", "ex", (), (), ()), ("extend", "ex", (COD,), (COD,), ()), ("extend", "ey", (COD,), (), ()),
+                     ("extend", "ex", (COD,), ()), ("ex", "ex", (COD,), (), ()), (), ((COD,), (), ())):
+            self.assertIs(tree_right(one, place, e, (e, COD, (c,), more)), False)
+
+    def test_evidence_of_calls(self):
+        one = program(given("gi", INT, num(1)), obj("o", a_def("f", INT, num(1), wants=(("w", INT),))))
+        e = call(name("o"), "f")
+        o = (name("o"), of("o"), (), ())
+        for evidences, right in (((("gi", (), ()),), True), ((), False), ((("hi", (), ()),), False), (None, False),
+                                 ((("gi", (), ()), ("gi", (), ())), False), ([("gi", (), ())], False)):
+            self.assertIs(tree_right(one, HERE, e, (e, INT, (o,), ("o", (), evidences))), right)
 
     def test_the_same_kinds_spelled_otherwise(self):
         place = ((), (("c", of("Cow")),))

@@ -128,6 +128,8 @@ class PartOfTest(unittest.TestCase):
         self.assertEqual(part_of(CAGES_PROGRAM, ((), (("c", of("Cow")),)), part("c", "Eats")), ("same", of("Hay")))
         self.assertEqual(part_of(PATHS_PROGRAM, ((), (("w", of("Wrap", TEXT)),)), part("w", "Own")),
                          ("same", of("Two", TEXT)))
+        with self.assertRaises(NoMember):
+            part_of(CAGES_PROGRAM, ((), (("m", mix(of("Hay"), INT)),)), part("m", "Eats"))
         # Of a with the first part that has it, of a part its upper.
         lets = (("m", mix(of("Hay"), of("Animal"), of("Cow"))),)
         self.assertEqual(part_of(CAGES_PROGRAM, ((), lets), part("m", "Eats")), ("upper", of("Food")))

@@ -103,6 +103,7 @@ class SuperOfTest(unittest.TestCase):
 
     def test_a_name_that_nothing_has(self):
         self.assertIsNone(super_of(FISHES_ALONE, "nemo", "Loud", "eel"))
+        self.assertIsNone(super_of(FISHES_ALONE, "nemo", "Loud", 5))
         self.assertIsNone(super_of(FORMS, "o", "C", "K"))
         self.assertEqual(super_of(FORMS, "o", "C", "L"), "T")
 
