@@ -89,6 +89,21 @@ class ExpressionsTest(KindTest):
         self.found(INT, call(name("tool"), "by", num(1)))
         self.fault("kind", (1,), call(name("tool"), "by", text("")))
 
+    def test_this_through_parents(self):
+        world = program(
+            trait("Top", a_def("up", of("Box", A), ("stop", "")), a_val("v", A), kparams=PARAM_A),
+            trait("Mid", kparams=(kparam("B"),), parents=(parent("Top", kinds=(B,)),)),
+            cls("Box", kparams=PARAM_A),
+            cls("Low", a_val("v", INT, num(1)), a_def("f", INT, num(1)), parents=(parent("Mid", kinds=(INT,)),)),
+            cls("Gen", a_def("f", INT, num(1)), kparams=(kparam("C"),), parents=(parent("Mid", kinds=(var("C"),)),)))
+        low, gen = (("Low", "f"), ()), (("Gen", "f"), ())
+        self.found(of("Box", INT), call(THIS, "up"), world=world, place=low)
+        self.found(INT, val(THIS, "v"), world=world, place=low)
+        self.found(of("Box", var("C")), call(THIS, "up"), world=world, place=gen)
+        self.found(of("Box", var("C")), above("up"), world=world, place=gen)
+        self.found(var("C"), val(THIS, "v"), world=world, place=gen)
+        self.found(of("Box", TEXT), call(name("t"), "up"), world=world, place=((), (("t", of("Mid", TEXT)),)))
+
     def test_kinds_that_are_chosen(self):
         tool = name("tool")
         self.found(FISH, call(tool, "pick", name("c"), name("f")))
