@@ -69,7 +69,7 @@ def path_faults(model, definition):
     """The (where, word) of paths of kinds outside of bodies."""
     wheres = []
     for site in sites_of(model, definition):
-        if not paths_stand(site.scope, site.kind):
+        if not paths_stand(site.scope, site.inner):
             wheres.append(site.where)
         elif site.member is not None and not names_those_ahead(model, site):
             wheres.append(site.where)
@@ -168,7 +168,7 @@ def override_rows(model, definition, orders):
     """The rows of a definition in the round of what overrides."""
     sites = sites_of(model, definition)
     rows = class_faults(model, definition, sites) if definition[0] in CLASSES else []
-    uppers = [(site.where, "upper") for site in sites if not uppers_hold(site.scope, site.kind)]
+    uppers = [(site.where, "upper") for site in sites if not uppers_hold(site.scope, site.inner)]
     rows.extend(placed(definition, uppers))
     for body in bodies_in(model, definition):
         rows.extend(placed(definition, new_faults(body.scope, body.e, body.where)))

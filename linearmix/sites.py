@@ -15,12 +15,13 @@ UNMADE = "~unmade"
 
 
 class Site:
-    """A kind that stands outside of bodies."""
+    """A kind that stands outside of bodies, as it is written and with inner names."""
 
     def __init__(self, where, scope, kind, way):
         self.where = where
         self.scope = scope
         self.kind = kind
+        self.inner = scope.inward(kind)
         self.way = way
         self.is_parent = False
         self.member = None
@@ -91,12 +92,12 @@ def signature_of(scope, where, kparams, params, wants, result):
         scope = scope.with_upper(name, upper)
     signature = Signature(scope)
     for name, kind, by_name in params:
-        sites.append(Site(where, scope, scope.inward(kind), TURNED))
+        sites.append(Site(where, scope, kind, TURNED))
         told = scope.inward(kind)
         scope = scope.with_name(name, "byname" if by_name else "value", told)
         signature.params.append((scope.reach[name], told, by_name))
     for name, kind in wants:
-        sites.append(Site(where, scope, scope.inward(kind), TURNED))
+        sites.append(Site(where, scope, kind, TURNED))
         told = scope.inward(kind)
         scope = scope.with_name(name, "value", told)
         signature.wants.append((scope.reach[name], told))
@@ -105,7 +106,7 @@ def signature_of(scope, where, kparams, params, wants, result):
     signature.scope = scope
     if result is not None:
         signature.result = scope.inward(result)
-        sites.append(Site(where, scope, signature.result, RIGHTLY))
+        sites.append(Site(where, scope, result, RIGHTLY))
     return signature
 
 

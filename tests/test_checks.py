@@ -108,6 +108,28 @@ class NamesTest(CheckTest):
         self.told(None, cage, cls("C", a_def("f", INT, num(1), kparams=(kparam("B", "", part("this", "k", "K")),)),
                                   a_val("k", of("Cage"))))
 
+    def test_names_that_hide_objects(self):
+        cage, o = trait("Cage", a_kind("K"), a_val("k", part("this", "K"))), obj("o", a_kind("K", ANY, INT))
+        here = part("o", "K")
+        params = (("o", of("Cage")), ("p", here))
+        self.told(None, cage, o, cls("C", a_def("f", here, name("p"), params=params, wants=(("w", here),))))
+        self.told(("kind", ("C", "f")), cage, o, cls("C", a_def("f", here, num(1), params=params)))
+        self.told(None, cage, o, cls("C", a_def("f", here, num(1), params=(("p", here),))))
+        self.told(None, cage, o, extend("ex", params[0], a_def("f", here, val(name("o"), "k"), params=params[1:])))
+        self.told(("kind", ("ex", "f")), cage, o, extend("ex", params[0], a_def("f", here, num(1))))
+        self.told(None, cage, o, given("gi", INT, num(1), wants=params))
+        self.told(None, cage, o, cls("C", vparams=(("v", TEXT), ("w", here))),
+                  cls("D", vparams=(("o", TEXT), ("p", here)), parents=(parent("C", name("o"), name("p")),)))
+        # A param does not stand in its own kind yet, nor in the uppers of the def.
+        self.told(None, cage, o, cls("C", a_def("f", INT, name("o"), params=(("o", here),))))
+        self.told(None, cage, o, cls("C", a_def("f", INT, ("stop", ""), params=params[:1], kparams=(
+            kparam("B", "", here),))))
+        self.told(("name", ("ex", "f")), cage, extend("ex", ("x", of("Cage")), a_def("f", INT, num(1), kparams=(
+            kparam("B", "", part("x", "K")),))))
+        self.main(("leaves", (1,)), let("o", num(1), val(new("C"), "v")), cage, obj("o", a_val("c", of("Cage"), ("stop", ""))),
+                  cls("C", a_val("v", part("o", "c", "K"), ("stop", ""))))
+        self.main(None, let("o", text(""), op("+", val(new("C"), "v"), num(1))), o, cls("C", a_val("v", here, num(1))))
+
     def test_twice(self):
         two = (("a", INT), ("a", INT))
         self.told(("name", ("C", "f")), cls("C", a_def("f", INT, num(1), params=two)))
