@@ -1,7 +1,7 @@
 """What objects there can be: classes that can be made, objects, and parts of news."""
 
 from linearmix.holding import FREE, Choice, freed
-from linearmix.kindtools import ANY, changed
+from linearmix.kindtools import ANY, changed, has_open
 from linearmix.lower import is_lower, is_same
 from linearmix.walks import all_within
 
@@ -51,15 +51,18 @@ def may_be_of(scope, name, kind):
     choice = Choice(scope, [(FREE + kparam[0], changed(kparam[2], table, {})) for kparam in kparams])
     if not choice.holds(("of", name, tuple(list(table.values()))), kind):
         return False
-    return all([notes_agree(choice, free, upper) for free, upper in choice.kparams])
+    known = {free: told for free, _ in choice.kparams for way, told in choice.notes[free] if way == "both"}
+    return all([notes_agree(choice, free, changed(upper, known, {})) for free, upper in choice.kparams])
 
 
 def notes_agree(choice, name, upper):
-    """Whether some kind is as all notes of a kind parameter have it."""
+    """Whether some kind is as all notes of a kind parameter, and its upper, have it."""
     notes = choice.notes[name]
     above = [kind for way, kind in notes if way != "below"]
     below = [kind for way, kind in notes if way != "above"]
     both = [kind for way, kind in notes if way == "both"]
+    if not has_open(upper, choice.free):
+        below.append(upper)
     if not all([is_same(choice.scope, both[0], kind) for kind in both]):
         return False
-    return all([is_lower(choice.scope, kind, other) for kind in above for other in below + [upper]])
+    return all([is_lower(choice.scope, kind, other) for kind in above for other in below])

@@ -444,6 +444,11 @@ class PatternsTest(unittest.TestCase):
         self.bad(of("Out", COD), ("is", "x", "B2"), world=world)
         self.bad(of("Both", COD), ("is", "x", "B3"), world=world)
         self.bad(mix(of("Both", COD), of("Both", FISH)), ("is", "x", "B1"), world=world)
+        two = trait("Two", kparams=(kparam("A"), kparam("B")))
+        under = cls("Under", kparams=(kparam("A"), kparam("B", "", A)), parents=(parent("Two", kinds=(A, B)),))
+        world = program(*FISHES, two, under)
+        self.names(of("Two", FISH, COD), ("is", "x", "Under"), ("x", of("Under", FISH, COD)), world=world)
+        self.bad(of("Two", COD, FISH), ("is", "x", "Under"), world=world)
 
     def test_what_no_object_can_be(self):
         world = program(*FISHES, trait("Salt"), trait("Box", kparams=PARAM_A), cls("Lack", a_def("f", INT)),
