@@ -40,6 +40,16 @@ def has_body(member):
     return member[0] != "def" or member[6] is not None
 
 
+def merged_views(views, outer, table):
+    """Lists of kind arguments, and further ones with what a table puts in, none twice."""
+    told = list(views)
+    for inner in outer:
+        view = tuple([changed(kind, table, {}) for kind in inner])
+        if view not in told and len(told) < VIEWS_MOST:
+            told.append(view)
+    return told
+
+
 def joined(orders):
     """Orders of parents behind one another, from the last, each name at its last place."""
     kept = []
@@ -108,12 +118,9 @@ class Model:
             parents = [] if self.has_round(name) else self.parents_of(name)
             for parent, kinds, _ in parents:
                 table = table_of(self.classes[parent].kparams, kinds)
-                for above, lists in self.all_views(parent).items():
-                    told = views.setdefault(above, [])
-                    for inner in lists:
-                        view = tuple([changed(kind, table, {}) for kind in inner])
-                        if view not in told and len(told) < VIEWS_MOST:
-                            told.append(view)
+                outer = self.all_views(parent)
+                for above in list(outer):
+                    views[above] = merged_views(views.get(above, []), outer[above], table)
             self.views[name] = views
         return self.views[name]
 
