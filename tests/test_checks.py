@@ -4,6 +4,7 @@ import unittest
 
 from linearmix.checks import check, let_by
 from linearmix.errors import BadForm
+from linearmix.forms import moved, renamed
 from test_orders import NO_PROGRAMS, program
 from worlds import (A, ALL_PROGRAMS, ANY, B, CAGES, COD, FISHES, INT, LISTS, NONE, PARAM_A, SHOWS, TEXT, THIS,
                     TRUTH, UNIT, a_def, a_kind, a_val, above, call, cls, extend, fun, given, kparam, lazy, let,
@@ -31,6 +32,15 @@ class LetByTest(CheckTest):
             self.assertIsNone(check(one))
             self.assertIs(let_by(program=one), True)
         self.assertIsNone(check(program=((), ("unit",))))
+
+    def test_moved_and_renamed_ones(self):
+        for one in ALL_PROGRAMS:
+            numbers = tuple(range(len(one[0])))
+            self.assertIsNone(check(moved(one, numbers[::-1])))
+            self.assertIsNone(check(moved(one, numbers[1:] + numbers[:1])))
+            for definition in one[0]:
+                other = "Newname" if definition[1][0].isupper() else "newname"
+                self.assertIsNone(check(renamed(one, definition[1], other)))
 
     def test_the_documents_example(self):
         definitions = (
