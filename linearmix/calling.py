@@ -115,7 +115,8 @@ class Calling:
         wanted = bridge.told(kind)
         if not choice.holds(found.kind, wanted):
             raise Fault("kind", self.where)
-        bridge.stand(inner, found.path, wanted)
+        # The kind of the param may be open still, and what is found is below it.
+        bridge.stand(inner, found.path, found.kind)
 
     def found(self, e, callee, ahead, wanted):
         """The found tree of the call; ahead is what stands in it ahead of the args."""

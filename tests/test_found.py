@@ -270,6 +270,37 @@ class DependentTest(KindTest):
         self.found(of("Hay"), val(new("Cow"), "best"), place=place, world=CAGES_PROGRAM)
         self.found(UNIT, call(keeper, "both", either), place=place, world=CAGES_PROGRAM)
 
+    def test_params_and_wants_in_kinds(self):
+        cage, low = of("Cage"), of("IntCage")
+        made, either = new("IntCage"), ("if", ("truth", True), name("c"), name("c"))
+        world = program(
+            trait("Cage", a_kind("K"), a_val("k", part("this", "K"))),
+            cls("IntCage", a_kind("K", ANY, INT), a_val("k", INT, num(3)), parents=(parent("Cage"),)),
+            obj("o", a_def("far", part("w", "K"), val(name("w"), "k"), wants=(("w", cage),)),
+                a_def("near", part("w", "K"), val(name("w"), "k"), wants=(("w", low),)),
+                a_def("gen", part("x", "K"), val(name("x"), "k"), params=(("x", A),), kparams=(kparam("A", "", cage),)),
+                a_def("two", A, name("x"), params=(("x", A), ("z", part("x", "K"))), kparams=(kparam("A", "", cage),))),
+            given("gi", low, made))
+        place = ((), (("c", cage), ("i", low)))
+        tool = name("o")
+        def found_at(wanted, e):
+            self.found(wanted, e, place=place, world=world)
+        def leaves(e):
+            self.fault("leaves", (), e, place=place, world=world)
+        # Of a given that is found it leaves, of a written one that is a path it does not.
+        leaves(call(tool, "far"))
+        leaves(call(tool, "far", givens=(made,)))
+        found_at(part("c", "K"), call(tool, "far", givens=(name("c"),)))
+        found_at(INT, call(tool, "near"))
+        found_at(part("i", "K"), call(tool, "near", givens=(name("i"),)))
+        found_at(part("c", "K"), call(tool, "gen", name("c")))
+        found_at(INT, call(tool, "gen", made))
+        leaves(call(tool, "gen", either))
+        found_at(cage, call(tool, "two", name("c"), val(name("c"), "k")))
+        found_at(low, call(tool, "two", made, num(1)))
+        leaves(call(tool, "two", either, num(1)))
+        leaves(call(tool, "two", made, num(1), kinds=(cage,)))
+
     def test_leaving_lets_funs_and_matches(self):
         place = ((), (("a", of("Animal")),))
         def fault(where, e, aim=None):
