@@ -39,9 +39,13 @@ class Calling:
         self.kinds, self.worths, self.givens = written
         self.first = first
 
+    def arg_where(self, at):
+        """The where of the arg of a number."""
+        return self.where + (self.first + at,)
+
     def arg(self, at, wanted):
         """The found arg of a number."""
-        return self.finder.seek(self.worths[at], wanted, self.scope, self.where + (self.first + at,))
+        return self.finder.seek(self.worths[at], wanted, self.scope, self.arg_where(at))
 
     def given_where(self, at):
         """The where of the written given of a number."""
@@ -93,10 +97,10 @@ class Calling:
         bridge.scope = choice.scope
         self.stand_early(callee, bridge)
         for at, (inner, kind, _) in enumerate(callee.params):
-            self.hold(choice, bridge, self.arg(at, None), (inner, kind))
+            self.hold(choice, bridge, (self.arg_where(at), self.arg(at, None)), (inner, kind))
         for at, want in enumerate(callee.wants):
             if self.givens is not None:
-                self.hold(choice, bridge, self.given(at, None), want)
+                self.hold(choice, bridge, (self.given_where(at), self.given(at, None)), want)
             else:
                 # It notes nothing, but the result may name it.
                 bridge.stand(want[0], None, bridge.told_or_none(want[1]) or ANY)
@@ -109,12 +113,13 @@ class Calling:
             raise Fault(word, self.where)
         return told
 
-    def hold(self, choice, bridge, found, param):
-        """Holds what is found against the kind of a param or want, for which it stands then."""
+    def hold(self, choice, bridge, placed, param):
+        """Holds what is found at a where against the kind of a param or want, for which it stands then."""
+        where, found = placed
         inner, kind = param
         wanted = bridge.told(kind)
         if not choice.holds(found.kind, wanted):
-            raise Fault("kind", self.where)
+            raise Fault("kind", where)
         # The kind of the param may be open still, and what is found is below it.
         bridge.stand(inner, found.path, found.kind)
 

@@ -92,7 +92,7 @@ def find_new(finder, e, wanted, scope, where):
     parts = [finder.seek(worth, vparam_kind(kinds[0], at, None, scope, where), scope, where + (at,))
              for at, worth in enumerate(e[1][0][2])]
     kind = kinds[0] if len(kinds) == 1 else ("with", tuple(kinds))
-    return Found(e, kind, parts, tuple([outward(one)[2] for one in kinds]))
+    return Found(e, kind, parts, tuple([outward(one) for one in kinds]))
 
 
 def vparam_kind(kind, at, path, scope, where):

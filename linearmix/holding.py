@@ -13,6 +13,13 @@ def freed(kparams, mark):
     return {kparam[0]: ("var", mark + kparam[0]) for kparam in kparams}
 
 
+def noted_both_ways(notes):
+    """The kinds that are noted both ways at once, or above by one note and below by another."""
+    above = [kind for way, kind in notes if way != "below"]
+    below = [kind for way, kind in notes if way != "above"]
+    return [kind for _, kind in notes if kind in above and kind in below]
+
+
 class Choice:
     """Kind parameters that are to be chosen, and what is noted of them.
 
@@ -131,7 +138,7 @@ class Choice:
     def one_chosen(self, name):
         """The kind for one by its notes; None where they do not agree."""
         notes = self.notes[name]
-        both = [kind for way, kind in notes if way == "both"]
+        both = noted_both_ways(notes)
         if both:
             same = all([is_same(self.scope, both[0], kind) for kind in both])
             return both[0] if same else None

@@ -1,6 +1,6 @@
 """What objects there can be: classes that can be made, objects, and parts of news."""
 
-from linearmix.holding import FREE, Choice, freed
+from linearmix.holding import FREE, Choice, freed, noted_both_ways
 from linearmix.kindtools import ANY, changed, has_open
 from linearmix.lower import is_lower, is_same
 from linearmix.walks import all_within
@@ -51,7 +51,7 @@ def may_be_of(scope, name, kind):
     choice = Choice(scope, [(FREE + kparam[0], changed(kparam[2], table, {})) for kparam in kparams])
     if not choice.holds(("of", name, tuple(list(table.values()))), kind):
         return False
-    known = {free: told for free, _ in choice.kparams for way, told in choice.notes[free] if way == "both"}
+    known = {free: told for free, _ in choice.kparams for told in noted_both_ways(choice.notes[free])}
     return all([notes_agree(choice, free, changed(upper, known, {})) for free, upper in choice.kparams])
 
 
@@ -60,7 +60,7 @@ def notes_agree(choice, name, upper):
     notes = choice.notes[name]
     above = [kind for way, kind in notes if way != "below"]
     below = [kind for way, kind in notes if way != "above"]
-    both = [kind for way, kind in notes if way == "both"]
+    both = noted_both_ways(notes)
     if not has_open(upper, choice.free):
         below.append(upper)
     if not all([is_same(choice.scope, both[0], kind) for kind in both]):

@@ -1,7 +1,7 @@
 """What patterns bring into reach, of which kinds (point 19)."""
 
 from linearmix.faults import Fault
-from linearmix.holding import FREE, Choice, freed
+from linearmix.holding import FREE, Choice, freed, noted_both_ways
 from linearmix.kindtools import NONE, changed, starts_in
 from linearmix.lower import first_bottom, first_top, is_lower, is_same
 from linearmix.parting import part_told, plain, seen_kind, stripped
@@ -91,7 +91,7 @@ def worth_by_notes(scope, notes, sign):
     if sign == "-":
         above = [kind for way, kind in notes if way != "below"]
         return first_top(scope, above) if above else NONE
-    both = [kind for way, kind in notes if way == "both"]
+    both = noted_both_ways(notes)
     if both and all([is_same(scope, both[0], kind) for kind in both]):
         return both[0]
     return None

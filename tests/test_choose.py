@@ -53,6 +53,17 @@ class ChooseTest(unittest.TestCase):
         # All the same that are noted both ways: the first of them.
         self.chosen(mix(COD, FISH), (of("Both", mix(COD, FISH)), of("Both", A)), (of("Both", COD), of("Both", A)))
 
+    def test_noted_above_by_one_and_below_by_another(self):
+        takes_cod = (fun(COD, INT), fun(A, INT))
+        self.chosen(COD, (mix(COD, ANY), A), (COD, A), takes_cod)
+        self.chosen(COD, takes_cod, (mix(COD, ANY), A), (COD, A))
+        self.chosen(mix(COD, ANY), (COD, A), (mix(COD, ANY), A), (fun(mix(COD, ANY), INT), fun(A, INT)))
+        self.told(("none found", "A"), (COD, A), takes_cod, (INT, A), (fun(INT, INT), fun(A, INT)))
+        # What does not hold is looked at when all are chosen; no top fails at once.
+        two = (kparam("A"), kparam("B"))
+        self.told(("none found", "B"), (COD, A), (TEXT, A), takes_cod, (COD, B), (TEXT, B), kparams=two)
+        self.told(("none found", "A"), (COD, A), (TEXT, A), takes_cod, (COD, B), kparams=two)
+
     def test_what_is_asked_beside(self):
         self.told(("kind", ""), (INT, of("Both", A)))
         self.told(("kind", ""), (INT, TEXT))

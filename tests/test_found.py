@@ -28,6 +28,11 @@ WORLD = program(
         a_def("unbox", A, val(name("x"), "v"), params=(("x", of("Box", A)),), kparams=PARAM_A),
         a_def("by", INT, name("n"), params=(("n", INT, True),))),
     trait("Mine", a_def("me", of("Mine"), THIS)))
+PUSHED = program(
+    trait("Base", a_def("put", UNIT, ("unit",), params=(("x", A), ("y", INT)), kparams=PARAM_A)),
+    cls("Low", a_def("go", UNIT, ("unit",)), parents=(parent("Base"),)),
+    extend("more", ("x", A), a_def("push", B, name("y"), params=(("y", B), ("z", INT)), kparams=(kparam("B"),),
+                                   wants=(("w", INT),)), kparams=PARAM_A))
 SHOP = ((), (("b", of("Box", INT)), ("f", FISH), ("c", COD), ("i", INT), ("g", fun(INT, TEXT)),
              ("m", mix(of("Loud"), PIKE)), ("l", of("List", INT))))
 
@@ -119,10 +124,14 @@ class ExpressionsTest(KindTest):
         self.found(of("Box", NONE), call(tool, "nothing"))
         self.found(of("Box", INT), call(tool, "nothing"), of("Box", INT))
         self.fault("kind", (), call(tool, "nothing"), INT)
-        # What is asked beside is told at the call, behind all that is wrong in the args up to there.
-        self.fault("kind", (), call(tool, "unbox", num(1)))
-        self.fault("kind", (1,), then(num(1), call(tool, "unbox", num(1), givens=())))
+        # What is asked beside is told at the arg, behind all that is wrong in the args up to there.
+        self.fault("kind", (1,), call(tool, "unbox", num(1)))
+        self.fault("kind", (1, 1), then(num(1), call(tool, "unbox", num(1), givens=())))
         self.fault("kind", (1, 0), call(tool, "unbox", op("+", text(""), num(1))))
+        self.fault("kind", (2,), call(num(1), "push", num(2), text("")), world=PUSHED, place=HERE)
+        self.fault("kind", (3,), call(num(1), "push", num(2), num(3), givens=(text(""),)), world=PUSHED, place=HERE)
+        self.fault("kind", (), call(num(1), "push", num(2), num(3), givens=(num(4),)), TEXT, HERE, PUSHED)
+        self.fault("kind", (1,), above("put", num(1), text("")), place=(("Low", "go"), ()), world=PUSHED)
         self.fault("kind", (1,), call(tool, "unbox", num(1), kinds=(INT,)))
         self.found(INT, call(tool, "unbox", name("b")))
         self.found(of("Box", TEXT), call(name("b"), "put", text("")))
@@ -556,7 +565,7 @@ class FoundTest(unittest.TestCase):
             given("gi", INT, num(7))),
             then(("summon", INT), ("match", val(name("pool"), "fish"), (
                 (("is", "c", "Cod"), num(1)), (("bind", "o"), num(2))))))
-        cod = (new("Cod"), COD, (), ((),))
+        cod = (new("Cod"), COD, (), (COD,))
         pool = (name("pool"), of("pool"), (), ())
         fish = (val(name("pool"), "fish"), FISH, (pool,), ())
         match = (one[1][2], INT, (fish, (num(1), INT, (), ()), (num(2), INT, (), ())),
@@ -579,7 +588,7 @@ class FoundTest(unittest.TestCase):
         trees = dict(found(one))
         above_e = FISHES[2][4][0][6][2]
         self.assertEqual(trees[("Loud", "title")][2][0], (above_e, TEXT, (), ("Fish", (), ())))
-        asks = (new("Asks"), of("Asks"), (), ((),))
+        asks = (new("Asks"), of("Asks"), (), (of("Asks"),))
         one_int = (num(1), INT, (), ())
         first, rest = trees[()][2]
         self.assertEqual(first, (one[1][1], INT, (asks, one_int), ("Asks", (INT,), (("gi", (), ()),))))
@@ -591,7 +600,7 @@ class FoundTest(unittest.TestCase):
         one = (FISHES + (cls("Box", kparams=PARAM_A), trait("Pair", kparams=(kparam("A"), kparam("B"))), trait("Salt")),
                new("Box", kinds=(INT,), more=("Salt", ("Pair", (COD, TEXT)))))
         self.assertEqual(found(one)[-1], ((), (one[1], mix(of("Box", INT), of("Salt"), of("Pair", COD, TEXT)), (),
-                                               ((INT,), (), (COD, TEXT)))))
+                                               (of("Box", INT), of("Salt"), of("Pair", COD, TEXT)))))
 
     def test_kinds_are_told_as_they_stand(self):
         trees = dict(found(CAGES_PROGRAM))
@@ -663,7 +672,7 @@ class TreeRightTest(unittest.TestCase):
 
     def test_trees_that_are_spoilt_in_one_place(self):
         e = call(name("tool"), "pick", new("Cod"), name("f"))
-        tree = (e, FISH, ((name("tool"), of("tool"), (), ()), (new("Cod"), COD, (), ((),)), (name("f"), FISH, (), ())),
+        tree = (e, FISH, ((name("tool"), of("tool"), (), ()), (new("Cod"), COD, (), (COD,)), (name("f"), FISH, (), ())),
                 ("tool", (FISH,), ()))
         self.assertIs(tree_right(WORLD, SHOP, e, tree), True)
         for thing in spoilt(tree):
