@@ -1,11 +1,10 @@
 """What functions behind check look at first: programs that are let by, places, kinds."""
 
 from linearmix.atoms import is_big, is_name
-from linearmix.checks import check
-from linearmix.errors import BadKind, BadPlace, NotLetBy
+from linearmix.errors import BadKind, BadPlace
 from linearmix.kindtools import all_kinds
-from linearmix.model import Model
 from linearmix.names_round import kind_words
+from linearmix.scripts import let_by_script
 from linearmix.sites import all_bodies, main_scope, parent_scope
 from linearmix.standing import paths_stand
 from linearmix.trees import is_form
@@ -13,10 +12,7 @@ from linearmix.trees import is_form
 
 def let_by_model(program):
     """The model of a program that is let by."""
-    what = check(program)
-    if what is not None:
-        raise NotLetBy(what)
-    return Model(program)
+    return let_by_script(program).model
 
 
 def need_kind_form(thing):

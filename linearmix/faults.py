@@ -24,3 +24,12 @@ class Endless(Exception):
     def __init__(self, kind):
         super().__init__("endless")
         self.kind = kind
+
+
+class Ended(Exception):
+    """A run ends otherwise than with what main is: the word of its outcome, and what is told."""
+
+    def __init__(self, word, text):
+        super().__init__(f"{word} {text}")
+        self.word = word
+        self.text = text

@@ -81,6 +81,7 @@ def find_val(finder, e, wanted, scope, where):
     bridge.table = table_of(scope.model.classes[owner].kparams, view[2])
     bridge.stand("this", got.path, home)
     found = Found(e, bridge.told(member[2]), [got], ())
+    found.form = form
     if got.path is not None and form == "val" and len(got.path) < PATH_MOST:
         found.path = got.path + (e[2],)
     return found
@@ -253,6 +254,8 @@ class Finder:
         look_at_kinds(scope, [scope.inward(kind) for kind in written_kinds(e)], where)
         work = FINDERS[e[0]]
         found = work(self, e, wanted, scope, where)
+        found.where = where
+        found.scope = scope
         if wanted is not None and e[0] not in PASSING and not is_lower(scope, found.kind, wanted):
             raise Fault("kind", where)
         return found

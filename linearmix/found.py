@@ -15,15 +15,15 @@ from linearmix.names_round import has_twice
 from linearmix.patterns import pattern_names
 from linearmix.rounds import fault_in_expression
 from linearmix.scopes import outward
-from linearmix.sites import all_bodies, main_scope
+from linearmix.scripts import let_by_script
+from linearmix.sites import main_scope
 from linearmix.trees import is_form, need_form
 
 
 def found(program):
     """(where, found tree) of all bodies of a program, main last."""
-    model = let_by_model(program)
-    finder = Finder(Makers(model, []))
-    return [(body.where, finder.find_body(body).tree) for body in all_bodies(model)]
+    bodies = let_by_script(program).bodies
+    return [(where, bodies[where].tree) for where in bodies]
 
 
 def kind_at(program, place, e, wanted):

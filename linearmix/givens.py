@@ -4,11 +4,9 @@ from linearmix.arguing import (let_by_model, need_kind, need_kind_form, need_pla
 from linearmix.atoms import is_name
 from linearmix.errors import NoName
 from linearmix.evidence import EvidenceCheck, outward_evidence, sorted_evidence
-from linearmix.finding import Finder
-from linearmix.makers import Makers
 from linearmix.scopes import outward
+from linearmix.scripts import let_by_script
 from linearmix.searching import Searcher
-from linearmix.sites import all_bodies
 
 
 def scope_and_kind(program, place, kind):
@@ -55,14 +53,13 @@ def all_evidence(program, place, kind):
 
 def would_change(program, name):
     """The ascending (place, kind) of searches that find something else without a given."""
-    model = let_by_model(program)
-    if not is_name(name) or name not in [one[1] for one in model.definitions if one[0] == "given"]:
+    script = let_by_script(program)
+    if not is_name(name) or name not in [one[1] for one in script.model.definitions if one[0] == "given"]:
         raise NoName("no given of the program has this name")
-    finder = Finder(Makers(model, []))
     found = []
-    for body in all_bodies(model):
-        if body.where != (name,):
-            for scope, kind in finder.find_body(body).searches:
+    for where in script.bodies:
+        if where != (name,):
+            for scope, kind in script.bodies[where].searches:
                 row = (scope.place, outward(kind))
                 if row not in found and changes(scope, kind, name):
                     found.append(row)

@@ -53,10 +53,10 @@ def merged_views(views, outer, table):
 def joined(orders):
     """Orders of parents behind one another, from the last, each name at its last place."""
     kept = []
-    for name in [name for order in orders for name in reversed(order)]:
+    for name in [name for order in orders for name in reversed(list(order))]:
         if name not in kept:
             kept.append(name)
-    return tuple(list(reversed(kept)))
+    return tuple(list(reversed(list(kept))))
 
 
 class Model:
