@@ -1,6 +1,7 @@
 """What a core is: the form of points 30 to 32, gone through without nesting."""
 
 from linearmix.atoms import is_integer
+from linearmix.corewalk import CFORMS, cs_in
 
 TABLES_MOST = 60
 SINGLES_MOST = 60
@@ -11,34 +12,6 @@ TEXT_MOST = 80
 
 OP_WORDS = ("+", "-", "*", "<", "=", "join")
 STOP_WORDS = ("stop", "unmatched")
-
-# What stands behind the word of a c; "body", "table" and "single" are numbers of these.
-CFORMS = {
-    "int": ("integer",),
-    "text": ("text",),
-    "truth": ("truth",),
-    "unit": (),
-    "local": ("local",),
-    "slot": ("c", "number"),
-    "fill": ("number", "c", "c"),
-    "send": ("c", "selector", "cs"),
-    "direct": ("body", "cs"),
-    "make": ("table", "cs"),
-    "single": ("single",),
-    "late": ("c",),
-    "now": ("c",),
-    "once": ("label", "c"),
-    "first": ("c",),
-    "fun": ("locals", "c"),
-    "apply": ("c", "cs"),
-    "if": ("c", "c", "c"),
-    "let": ("new local", "c", "c"),
-    "among": ("c", "tables"),
-    "show": ("c",),
-    "then": ("c", "c"),
-    "op": ("op word", "c", "c"),
-    "stop": ("stop word", "c"),
-}
 
 # The working of what stands in these has locals of its own.
 CLOSED = ("late", "once", "fun")
@@ -72,43 +45,6 @@ def are_ascending(things):
 def are_labels(thing):
     """Whether any object is a tuple of texts of a core."""
     return isinstance(thing, tuple) and all([is_label(one) for one in thing])
-
-
-def cs_in(c):
-    """The c's directly in a c, in their sequence."""
-    found = []
-    for sort, part in zip(CFORMS[c[0]], c[1:]):
-        if sort == "c":
-            found.append(part)
-        elif sort == "cs":
-            found.extend(part)
-    return found
-
-
-def with_cs(c, inner):
-    """A c with others in the place of those directly in it."""
-    rest = list(inner)
-    parts = [c[0]]
-    for sort, part in zip(CFORMS[c[0]], c[1:]):
-        if sort == "c":
-            parts.append(rest.pop(0))
-        elif sort == "cs":
-            parts.append(tuple(rest[:len(part)]))
-            rest = rest[len(part):]
-        else:
-            parts.append(part)
-    return tuple(parts)
-
-
-def all_cs(c):
-    """A c and all c's in it, at every depth, the outer ahead of the inner, from the left."""
-    found = []
-    rest = [c]
-    while rest:
-        one = rest.pop()
-        found.append(one)
-        rest.extend(list(reversed(list(cs_in(one)))))
-    return found
 
 
 class CoreForm:

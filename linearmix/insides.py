@@ -21,6 +21,13 @@ def classes_in_pattern(pattern):
     return []
 
 
+def patterns_in(pattern):
+    """A pattern and all patterns in it."""
+    if pattern[0] != "of":
+        return [pattern]
+    return [pattern] + [one for inner in pattern[2] for one in patterns_in(inner)]
+
+
 def inner_trees(e):
     """The expressions directly in one, each with the names that the one brings into its reach."""
     word = e[0]

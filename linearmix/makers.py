@@ -20,10 +20,12 @@ class Makers:
         program = (model.definitions, model.main)
         self.names = [name for name, entry in model.classes.items()
                       if entry.word != "trait" and not model.missing_names(model.order(name))]
-        news = news_in("program", program) + more
+        self.news = []
         self.orders = []
-        for names in news:
+        for names in news_in("program", program) + more:
             order = model.mixed_order(list(names))
+            if names not in self.news:
+                self.news.append(names)
             if order not in self.orders:
                 self.orders.append(order)
 

@@ -66,13 +66,20 @@ def parts_above(model, kind, name):
     return [kind] if own else []
 
 
-def chosen_kinds(scope, kind, name):
-    """The kind arguments of a class, as they have to be for what is matched; None if none are."""
+def choice_for(scope, kind, name):
+    """The kind parameters of a class to be chosen for what is matched, and whether that holds."""
     kparams = scope.model.classes[name].kparams
     table = freed(kparams, FREE)
     choice = Choice(scope, [(FREE + kparam[0], changed(kparam[2], table, {})) for kparam in kparams])
     own = ("of", name, tuple(list(table.values())))
-    if not all([choice.holds(own, part) for part in parts_above(scope.model, kind, name)]):
+    return choice, all([choice.holds(own, part) for part in parts_above(scope.model, kind, name)])
+
+
+def chosen_kinds(scope, kind, name):
+    """The kind arguments of a class, as they have to be for what is matched; None if none are."""
+    kparams = scope.model.classes[name].kparams
+    choice, holds = choice_for(scope, kind, name)
+    if not holds:
         return None
     told = {}
     for kparam, (free, upper) in zip(kparams, choice.kparams):

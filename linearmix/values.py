@@ -1,0 +1,89 @@
+"""The values that are thought of where patterns are held against a kind (point 24).
+
+A value is told by its head: a literal, or a thing with an order of classes; what
+stands in its vparams is thought of by itself.
+"""
+
+from linearmix.insides import patterns_in
+from linearmix.lower import is_lower
+from linearmix.makers import may_be_of, order_meets
+from linearmix.shapekinds import TRUTHS, ShapeKinds
+
+# One of which nothing is known.
+FURTHER = ("thing", ())
+
+
+def literals_of(patterns):
+    """The literals that stand in patterns."""
+    return [one[1] for pattern in patterns for one in patterns_in(pattern) if one[0] == "lit"]
+
+
+def class_asked(pattern):
+    """The class that a pattern asks for; None if it asks for none."""
+    if pattern[0] == "is":
+        return pattern[2]
+    return pattern[1] if pattern[0] == "of" else None
+
+
+class Values:
+    """The heads of the values of kinds, for some literals."""
+
+    def __init__(self, scope, makers, literals):
+        self.kinds = ShapeKinds(scope, makers)
+        self.scope = scope
+        self.model = scope.model
+        self.makers = makers
+        self.literals = literals
+        self.known = {}
+
+    def heads(self, kind):
+        """The heads of the values of a kind, each once; there is one at least."""
+        key = repr(kind)
+        if key not in self.known:
+            found = []
+            for head in self.all_heads(kind):
+                if head not in found:
+                    found.append(head)
+            self.known[key] = found if found else [FURTHER]
+        return self.known[key]
+
+    def all_heads(self, kind):
+        """The heads of the values of a kind."""
+        if kind == ("truth",):
+            return list(TRUTHS)
+        if self.kinds.is_sealed(kind):
+            names = self.kinds.classes(kind)
+            made = [("thing", self.model.order(name)) for name in names]
+            return made + self.new_heads(kind, names)
+        found = [("lit", literal) for literal in self.literals if is_lower(self.scope, (literal[0],), kind)]
+        found.append(("thing", self.order_of_kind(kind)))
+        if kind in (("int",), ("text",)):
+            return found
+        found.extend(self.new_heads(kind, None))
+        for name in self.model.classes:
+            is_open = not self.model.is_object(name) and not self.model.is_below_sealed(name)
+            if (is_open or name in self.makers.names) and may_be_of(self.scope, name, kind):
+                found.append(("thing", self.model.order(name)))
+        return found
+
+    def new_heads(self, kind, firsts):
+        """The heads of the news that may be of a kind, with first parts of some classes, or of all."""
+        orders = [self.model.mixed_order(list(names)) for names in self.makers.news
+                  if firsts is None or names[0] in firsts]
+        return [("thing", order) for order in orders if order_meets(order, kind)]
+
+    def order_of_kind(self, kind):
+        """The classes of a further value of just a kind."""
+        if kind[0] == "of":
+            return self.model.order(kind[1])
+        if kind[0] == "with":
+            return tuple([name for part in kind[1] for name in self.order_of_kind(part)])
+        return ()
+
+    def takes(self, pattern, head):
+        """Whether a pattern, what stands within it left aside, takes values with a head."""
+        if pattern[0] in ("any", "bind"):
+            return True
+        if pattern[0] == "lit":
+            return head == pattern
+        return head[0] == "thing" and class_asked(pattern) in head[1]
