@@ -2,7 +2,6 @@
 
 from linearmix.foundtree import all_found
 from linearmix.lowbody import LowBody, LowReach, call_selector, super_selector
-from linearmix.makers import news_in
 from linearmix.model import form_of
 from linearmix.scripts import is_single
 
@@ -18,17 +17,13 @@ class Lowering:
     def __init__(self, script):
         self.script = script
         self.model = script.model
-        program = (self.model.definitions, self.model.main)
-        self.made = [(name,) for name in self.model.classes if self.model.is_object(name)]
-        for names in news_in("program", program):
-            if names not in self.made:
-                self.made.append(names)
+        self.made = script.parts_made()
         members = [name for entry in self.model.classes.values() for name in entry.table
                    if form_of(entry.table[name]) in ("val", "lazy", "given")]
         self.slots = sorted({name for name in members})
         single_names = [one[1] for one in self.model.definitions if is_single(one)]
         self.singles = {name: number for number, name in enumerate(single_names)}
-        self.keys = []
+        self.asked_for = []
         self.supers = self.all_supers()
 
     def all_supers(self):
@@ -46,15 +41,15 @@ class Lowering:
         singles = tuple([(self.number(("single", name)), name) for name in self.singles])
         tables = tuple([self.table(number) for number in range(len(self.made))])
         bodies = []
-        while len(bodies) < len(self.keys):
-            bodies.append(self.body(self.keys[len(bodies)]))
+        while len(bodies) < len(self.asked_for):
+            bodies.append(self.body(self.asked_for[len(bodies)]))
         return (tables, tuple(bodies), singles, main)
 
     def number(self, key):
         """The number of the body that a key tells."""
-        if key not in self.keys:
-            self.keys.append(key)
-        return self.keys.index(key)
+        if key not in self.asked_for:
+            self.asked_for.append(key)
+        return self.asked_for.index(key)
 
     def order(self, number):
         """The order of the objects of a table."""
@@ -145,23 +140,15 @@ class Lowering:
             owner = self.model.first_body(order, name)
             if owner is not None and self.model.classes[owner].table[name][0] in ("lazy", "given"):
                 fills.append((name, ("once", owner + " " + name, self.own_call((owner, name)))))
-        for owner in reversed(list(order)):
-            for member in self.model.classes[owner].members:
-                if member[0] == "val" and member[3] is not None:
-                    fills.append((member[1], self.own_call((owner, member[1]))))
+        for where in self.script.val_bodies(order):
+            fills.append((where[1], self.own_call(where)))
         return (1 + len(vparams), 0, all_fills([(self.slot(name), c) for name, c in fills]))
 
     def parent_fills(self, name):
         """The fills of the vparams of the classes above one, nearest first."""
-        fills = []
-        parents = self.model.classes[name].parents
-        while parents and self.model.classes[parents[0][0]].word == "class":
-            parent = parents[0][0]
-            for at, (vparam, _) in enumerate(self.model.classes[parent].vparams):
-                fills.append((vparam, self.own_call((name, at))))
-            name = parent
-            parents = self.model.classes[name].parents
-        return fills
+        vparams = [row for row in self.script.vparam_order(name) if row[0] != name]
+        wheres = self.script.arg_bodies(name)
+        return [(vparam, self.own_call(where)) for (_, vparam), where in zip(vparams, wheres)]
 
     def own_call(self, where):
         """The c that begins a body with this alone."""

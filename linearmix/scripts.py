@@ -4,7 +4,7 @@ from linearmix.errors import NotLetBy
 from linearmix.faults import Fault
 from linearmix.finding import Finder
 from linearmix.makers import Makers
-from linearmix.model import Model
+from linearmix.model import Model, has_body
 from linearmix.rounds import first_fault
 from linearmix.sites import all_bodies
 from linearmix.trees import need_program
@@ -36,6 +36,62 @@ class Script:
         if owner in self.model.classes:
             return self.model.classes[owner].table[name]
         return [member for member in self.definition(owner)[5] if member[1] == name][0]
+
+    def parts_made(self):
+        """The names of the parts of all news, and, as one part, the names of all objects."""
+        objects = [(name,) for name in self.model.classes if self.model.is_object(name)]
+        return objects + [names for names in self.makers.news]
+
+    def own_bodies(self, owner):
+        """The names of the members of a class with a body, kinds and vparams left aside."""
+        return [member[1] for member in self.model.classes[owner].members
+                if member[0] != "kind" and has_body(member)]
+
+    def all_rows(self):
+        """(class, name) of all bodies, "" as the class of givens, args of parents left aside."""
+        rows = []
+        for definition in self.model.definitions:
+            if definition[0] == "given":
+                rows.append(("", definition[1]))
+            elif definition[0] == "extend":
+                rows.extend([(definition[1], member[1]) for member in definition[5]])
+            else:
+                rows.extend([(definition[1], name) for name in self.own_bodies(definition[1])])
+        return rows
+
+    def val_bodies(self, order):
+        """(class, val) of the vals with a body in an order, from its far end, vparams left aside."""
+        found = []
+        for owner in reversed(list(order)):
+            for member in self.model.classes[owner].members:
+                if member[0] == "val" and has_body(member):
+                    found.append((owner, member[1]))
+        return found
+
+    def parent_class(self, name):
+        """The class that is the first parent of one; None if that is a trait, or there is none."""
+        parents = self.model.classes[name].parents
+        if parents and self.model.classes[parents[0][0]].word == "class":
+            return parents[0][0]
+        return None
+
+    def class_chain(self, name):
+        """A class, the class that is its first parent, and so on."""
+        chain = []
+        while name is not None:
+            chain.append(name)
+            name = self.parent_class(name)
+        return chain
+
+    def vparam_order(self, name):
+        """(class, vparam) of a class, of the class that is its first parent, and so on."""
+        return [(owner, vparam) for owner in self.class_chain(name)
+                for vparam, _ in self.model.classes[owner].vparams]
+
+    def arg_bodies(self, name):
+        """The wheres of the args of the parents of a class, and of those above it."""
+        return [(owner, at) for owner in self.class_chain(name)
+                for parent in self.model.classes[owner].parents[:1] for at in range(len(parent[2]))]
 
 
 def is_single(definition):

@@ -9,8 +9,8 @@ from linearmix.values import class_asked
 class State:
     """The heads that values at places can have, and the class asked for last at each."""
 
-    def __init__(self, values, kind):
-        self.values = values
+    def __init__(self, thought, kind):
+        self.thought = thought
         self.kind = kind
         self.left = {}
         self.current = {}
@@ -18,7 +18,7 @@ class State:
 
     def copied(self):
         """The same, to be changed by its maker."""
-        other = State(self.values, self.kind)
+        other = State(self.thought, self.kind)
         other.left = {place: self.left[place] for place in self.left}
         other.current = {place: self.current[place] for place in self.current}
         other.asked = {place: self.asked[place] for place in self.asked}
@@ -28,13 +28,13 @@ class State:
         """The kind of what stands at a place."""
         kind = self.kind
         for name, number in place:
-            kind = self.values.kinds.fields(kind, name)[number]
+            kind = self.thought.kinds.fields(kind, name)[number]
         return kind
 
     def heads(self, place):
         """The heads that values at a place can have."""
         if place not in self.left:
-            return self.values.heads(self.kind_at(place))
+            return self.thought.heads(self.kind_at(place))
         return self.left[place]
 
     def is_empty(self):
@@ -45,8 +45,8 @@ class State:
         """The states for values that a pattern, what stands in it left aside, takes, and for others."""
         yes, no = self.copied(), self.copied()
         heads = self.heads(place)
-        yes.left[place] = [head for head in heads if self.values.takes(pattern, head)]
-        no.left[place] = [head for head in heads if not self.values.takes(pattern, head)]
+        yes.left[place] = [head for head in heads if self.thought.takes(pattern, head)]
+        no.left[place] = [head for head in heads if not self.thought.takes(pattern, head)]
         name = class_asked(pattern)
         if name is not None:
             yes.current[place] = name
@@ -60,14 +60,14 @@ class State:
 
     def takes_some(self, pattern, place):
         """Whether a pattern for a place takes some value."""
-        if not any([self.values.takes(pattern, head) for head in self.heads(place)]):
+        if not any([self.thought.takes(pattern, head) for head in self.heads(place)]):
             return False
         return pattern[0] != "of" or all([self.takes_some(inner, one)
                                           for one, inner in self.inner_places(place, pattern)])
 
     def takes_all(self, pattern, place):
         """Whether a pattern for a place takes all values."""
-        if not all([self.values.takes(pattern, head) for head in self.heads(place)]):
+        if not all([self.thought.takes(pattern, head) for head in self.heads(place)]):
             return False
         return pattern[0] != "of" or all([self.takes_all(inner, one)
                                           for one, inner in self.inner_places(place, pattern)])

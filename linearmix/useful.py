@@ -11,7 +11,7 @@ class Usefulness:
     """Looks whether a row of patterns takes values, several at once, that no other row takes."""
 
     def __init__(self, scope, makers, patterns):
-        self.values = Values(scope, makers, literals_of(patterns))
+        self.thought = Values(scope, makers, literals_of(patterns))
         self.search = Search(scope, makers)
         self.known = {}
 
@@ -25,8 +25,8 @@ class Usefulness:
         row = tuple([row[at] for at in asked])
         key = repr((kinds, rows, row))
         if key not in self.known:
-            heads = list(self.values.heads(kinds[0]))
-            if not self.values.kinds.is_closed(kinds[0]):
+            heads = list(self.thought.heads(kinds[0]))
+            if not self.thought.kinds.is_closed(kinds[0]):
                 heads.append(STAR)
             self.known[key] = self.by_heads(heads, (kinds, rows, row))
         return self.known[key]
@@ -36,7 +36,7 @@ class Usefulness:
         kinds, rows, row = asked
         for head in heads:
             names = self.classes_asked(head, (row,) + rows)
-            fields = [field for name in names for field in self.values.kinds.fields(kinds[0], name)]
+            fields = [field for name in names for field in self.thought.kinds.fields(kinds[0], name)]
             own = self.within(head, kinds[0], row, names)
             if own is None:
                 continue
@@ -59,11 +59,11 @@ class Usefulness:
         pattern = row[0]
         if head == STAR:
             return row[1:] if self.search.takes_all(pattern, kind) else None
-        if not self.values.takes(pattern, head):
+        if not self.thought.takes(pattern, head):
             return None
         inner = ()
         for name in names:
-            many = len(self.values.model.classes[name].vparams)
+            many = len(self.thought.model.classes[name].vparams)
             is_own = pattern[0] == "of" and pattern[1] == name
             inner = inner + (pattern[2] if is_own else (WILD,) * many)
         return inner + row[1:]

@@ -1,7 +1,7 @@
 """Runs by the plain rules (points 26, 27), by a stack of tasks, so that nothing has to nest."""
 
 from linearmix.faults import Ended
-from linearmix.model import form_of, has_body
+from linearmix.model import form_of
 from linearmix.plainthings import ByName, Env, Once, PlainTeller, Thing
 from linearmix.scripts import is_single
 from linearmix.workends import ENDS, with_params
@@ -31,10 +31,17 @@ class Run:
         self.made = []
         self.readings = []
 
+    def use(self, script):
+        """Goes on with a script that has more definitions, or less."""
+        self.script = script
+        self.model = script.model
+
     def outcome(self, node, names, bound):
         """(word, told) of an expression worked with names, within so many steps; and its worth."""
         self.steps = 0
         self.bound = bound
+        self.shown = []
+        self.shown_at = []
         self.tasks = [("eval", node, Env(None, None, names, {}))]
         try:
             self.work()
@@ -198,7 +205,7 @@ def task_vparams(run, task):
     worths = dict(list(zip(vparams, run.taken(many))))
     for vparam in vparams:
         thing.ready[vparam] = worths[vparam]
-    if entry.parents and run.model.classes[entry.parents[0][0]].word == "class":
+    if run.script.parent_class(name) is not None:
         parent, _, args = entry.parents[0]
         env = Env(None, None, worths, {})
         nodes = [run.script.bodies[(name, at)] for at in range(len(args))]
@@ -215,17 +222,7 @@ def task_fill(run, task):
             around = Env(thing, owner, {}, {})
             label = owner + " " + name
             thing.onces[name] = Once(label, ("body", owner, name, (owner, name), around))
-    run.add([("val", thing, owner, name) for owner, name in val_bodies(run.model, thing.order)])
-
-
-def val_bodies(model, order):
-    """(class, val) of the vals with a body in an order, from its far end, vparams left out."""
-    found = []
-    for owner in reversed(list(order)):
-        for member in model.classes[owner].members:
-            if member[0] == "val" and has_body(member):
-                found.append((owner, member[1]))
-    return found
+    run.add([("val", thing, owner, name) for owner, name in run.script.val_bodies(thing.order)])
 
 
 def task_val(run, task):
