@@ -13,7 +13,8 @@ class Reach:
         self.selectors = {}
         self.rest = [main]
         while self.rest:
-            for c in all_cs(self.all_bodies[self.rest.pop()][2]):
+            number = self.rest.pop()
+            for c in all_cs(self.all_bodies[number][2]):
                 self.reach_c(c)
 
     def reach_body(self, number):

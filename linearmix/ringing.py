@@ -87,7 +87,8 @@ def leads_to(asked, row, start, way):
     seen = {row: True}
     rest = [row]
     while rest:
-        for other in asked[rest.pop()]:
+        last = rest.pop()
+        for other in asked[last]:
             if other == start:
                 return True
             if other > start and other not in way and other not in seen:

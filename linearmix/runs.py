@@ -12,12 +12,14 @@ class Story:
         self.run = Run(script)
         self.word, self.text, _ = self.run.outcome(script.bodies[()], {}, steps)
 
-    def at_bound(self, steps):
-        """The outcome with a bound that is no greater."""
-        if self.word != "steps" and self.run.steps <= steps:
-            return (self.word, self.text, list(self.run.shown))
-        shown = [text for text, at in zip(self.run.shown, self.run.shown_at) if at <= steps]
-        return ("steps", "", shown)
+    def outcome(self):
+        """The outcome of the run."""
+        return (self.word, self.text, list(self.run.shown))
+
+    def events(self):
+        """(steps done, what happens then) of all that is shown, and of the end, if it is one."""
+        rows = [(at, "show", text) for text, at in zip(self.run.shown, self.run.shown_at)]
+        return rows if self.word == "steps" else rows + [(self.run.steps, self.word, self.text)]
 
 
 def story_of(program, steps):
@@ -29,7 +31,7 @@ def story_of(program, steps):
 
 def run(program, steps):
     """The outcome of a program: how it ended, with what, and what it showed."""
-    return story_of(program, steps).at_bound(steps)
+    return story_of(program, steps).outcome()
 
 
 def steps_of(program, steps):
@@ -48,12 +50,18 @@ def first_unlike(program, other, steps):
     second = let_by_script(other)
     need_count(steps, PLAIN_MOST)
     one, two = Story(first, steps), Story(second, steps)
-    if one.at_bound(steps) == two.at_bound(steps):
+    if one.outcome() == two.outcome():
         return None
-    for bound in range(steps):
-        if one.at_bound(bound) != two.at_bound(bound):
-            return bound
-    return steps
+    return min(unlike_bounds(one.events(), two.events()))
+
+
+def unlike_bounds(ones, others):
+    """The bounds at which two lists of (steps, what happens then) begin to differ."""
+    for at in range(max(len(ones), len(others))):
+        here = [events[at] for events in (ones, others) if at < len(events)]
+        if len(here) == 1 or here[0] != here[1]:
+            return [event[0] for event in here]
+    return []
 
 
 def things_made(program, steps):

@@ -20,16 +20,25 @@ INTERFACE = {
               "below_holds", "freest_sign"),
     "found": ("found", "kind_at", "names_of_pattern", "choose", "tree_right"),
     "givens": ("find_given", "evidence_holds", "evidence_fits", "all_evidence", "would_change"),
+    "shapes": ("shapes_of", "missing", "needless", "tree_of", "tree_holds", "unsure"),
+    "runs": ("run", "steps_of", "calls_of", "first_unlike", "things_made", "reads"),
+    "cores": ("is_core", "run_core", "begun_bodies"),
+    "lowering": ("lowered",),
+    "better": ("reach", "reach_holds", "direct_calls", "left_out", "shortened", "better", "core_size", "gain"),
+    "questions": ("worked_by", "hidden", "asks", "ready_order", "unready_reads", "reached", "never_reached",
+                  "rounds"),
+    "session": ("Session",),
+    "desk": ("Desk",),
 }
 BUILTINS = """len range enumerate zip min max sum abs sorted reversed int str bool list tuple dict set
-isinstance ord repr any all divmod ValueError KeyError super type""".split()
+isinstance ord repr any all divmod ValueError TypeError KeyError super type""".split()
 METHODS = """append clear copy count endswith extend find get index insert isalnum isalpha isdigit
 islower isspace isupper items join keys ljust lower lstrip partition pop remove replace reverse rfind
 rjust rpartition rsplit rstrip setdefault split splitlines startswith strip update upper values zfill
 bit_length isascii add discard partition removeprefix""".split()
 STATEMENTS = (ast.Import, ast.ImportFrom, ast.FunctionDef, ast.ClassDef, ast.Assign, ast.Expr, ast.If,
               ast.While, ast.For, ast.Return, ast.Break, ast.Continue, ast.Pass, ast.Raise, ast.Assert,
-              ast.AugAssign, ast.Try)
+              ast.AugAssign, ast.Try, ast.Delete)
 
 
 def files():
@@ -92,13 +101,13 @@ class LanguageTest(unittest.TestCase):
         own = {node.name for _, node in nodes((ast.FunctionDef, ast.ClassDef))}
         for name, node in nodes(ast.Call):
             if isinstance(node.func, ast.Name):
-                self.assertIn(node.func.id, own | set(BUILTINS) | {"work"}, (name, node.lineno))
+                self.assertIn(node.func.id, own | set(BUILTINS) | {"work", "answer", "change"}, (name, node.lineno))
             elif isinstance(node.func, ast.Attribute):
                 self.assertIn(node.func.attr, own | set(METHODS) | {"__init__"}, (name, node.lineno))
 
     def test_what_does_not_stand_at_all(self):
         for name, node in nodes((ast.GeneratorExp, ast.Global, ast.Nonlocal, ast.Yield, ast.YieldFrom,
-                                 ast.Await, ast.Delete, ast.Div, ast.With)):
+                                 ast.Await, ast.Div, ast.With)):
             self.fail((name, node.lineno))
         for name, node in nodes(ast.Constant):
             self.assertNotIsInstance(node.value, (float, complex), name)
@@ -107,7 +116,7 @@ class LanguageTest(unittest.TestCase):
 
     def test_every_function_and_class_tells_what_it_is_for(self):
         for name, node in nodes((ast.Module, ast.ClassDef, ast.FunctionDef)):
-            if getattr(node, "name", "") != "__init__":
+            if not getattr(node, "name", "").startswith("__"):
                 self.assertTrue(ast.get_docstring(node), (name, getattr(node, "name", "")))
 
     def test_no_name_is_that_of_a_builtin(self):
@@ -129,13 +138,37 @@ class LanguageTest(unittest.TestCase):
                 if isinstance(node, ast.Name) and isinstance(node.ctx, ast.Store):
                     self.assertNotIn(node.id, taken, (file, node.lineno))
 
-    def test_no_name_is_a_method_and_an_attribute(self):
-        methods = {node.name for _, owner in nodes(ast.ClassDef) for node in owner.body
-                   if isinstance(node, ast.FunctionDef)}
+    def test_no_name_is_a_method_and_an_attribute_of_one_class(self):
+        owners = {owner.name: owner for _, owner in nodes(ast.ClassDef)}
+        for name, owner in nodes(ast.ClassDef):
+            family = [owner] + [owners[base.id] for base in owner.bases if base.id in owners]
+            methods = {node.name for one in family for node in one.body if isinstance(node, ast.FunctionDef)}
+            stored = {node.attr for one in family for node in ast.walk(one) if isinstance(node, ast.Attribute)
+                      and isinstance(node.ctx, ast.Store)}
+            self.assertFalse(methods & stored, (name, owner.name))
+
+    def test_attributes_are_not_named_like_methods_of_builtins(self):
         for name, node in nodes(ast.Attribute):
             if isinstance(node.ctx, ast.Store):
-                self.assertNotIn(node.attr, methods, (name, node.lineno))
-                self.assertNotIn(node.attr, set(METHODS) | {"sort", "args", "format"}, (name, node.lineno))
+                self.assertNotIn(node.attr, set(METHODS) | {"sort", "args", "format", "open", "input"},
+                                 (name, node.lineno))
+
+    def test_no_method_is_read_off_a_class(self):
+        classes = {node.name for _, node in nodes(ast.ClassDef)}
+        for name, node in nodes(ast.Attribute):
+            if isinstance(node.value, ast.Name):
+                self.assertNotIn(node.value.id, classes, (name, node.lineno))
+
+    def test_what_is_reversed_is_plainly_a_list(self):
+        for name, node in nodes(ast.Call):
+            if isinstance(node.func, ast.Name) and node.func.id == "reversed":
+                self.assertIn(node.args[0].func.id, ("list", "tuple", "sorted", "range"), (name, node.lineno))
+
+    def test_is_stands_with_none_and_truths_alone(self):
+        for name, node in nodes(ast.Compare):
+            for word, other in zip(node.ops, node.comparators):
+                if isinstance(word, (ast.Is, ast.IsNot)) and "type(" not in ast.unparse(node):
+                    self.assertIsInstance(other, ast.Constant, (name, node.lineno))
 
     def test_no_name_is_bound_twice_in_a_file(self):
         for file in files():
