@@ -34,16 +34,17 @@ class Makers:
         for maker in self.names:
             if name in self.model.order(maker) and may_be_of(scope, maker, kind):
                 return True
-        return any([name in order and order_meets(order, kind) for order in self.orders])
+        return any([name in self.model.mixed_order(list(names)) and new_meets(scope, names, kind)
+                    for names in self.news])
 
 
-def order_meets(order, kind):
-    """Whether an object of an order may be below a kind, kind arguments left aside."""
+def new_meets(scope, names, kind):
+    """Whether a new of parts may be below a kind, by the classes of its parts, whatever their kinds."""
     if kind == ANY:
         return True
     if kind[0] == "with":
-        return all([order_meets(order, part) for part in kind[1]])
-    return kind[0] == "of" and kind[1] in order
+        return all([new_meets(scope, names, part) for part in kind[1]])
+    return any([may_be_of(scope, name, kind) for name in names])
 
 
 def may_be_of(scope, name, kind):

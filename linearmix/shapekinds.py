@@ -1,7 +1,7 @@
 """Sealed kinds, the classes that their shapes can have, and the kinds of these classes' vparams (23)."""
 
 from linearmix.kindtools import changed, kinds_in, with_kinds
-from linearmix.makers import may_be_of, order_meets
+from linearmix.makers import may_be_of, new_meets
 from linearmix.parting import part_told, plain, seen_kind, stripped
 from linearmix.patterns import MATCHED, choice_for, first_seen, worth_by_notes
 
@@ -41,8 +41,7 @@ class ShapeKinds:
         """The ascending classes that the shapes of a sealed kind can have."""
         key = repr(kind)
         if key not in self.known_classes:
-            firsts = [names[0] for names in self.makers.news
-                      if order_meets(self.model.mixed_order(list(names)), kind)]
+            firsts = [names[0] for names in self.makers.news if new_meets(self.scope, names, kind)]
             self.known_classes[key] = [name for name in sorted(self.makers.names)
                                        if name in firsts or may_be_of(self.scope, name, kind)]
         return self.known_classes[key]

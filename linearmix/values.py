@@ -6,7 +6,7 @@ stands in its vparams is thought of by itself.
 
 from linearmix.insides import patterns_in
 from linearmix.lower import is_lower
-from linearmix.makers import may_be_of, order_meets
+from linearmix.makers import may_be_of, new_meets
 from linearmix.shapekinds import TRUTHS, ShapeKinds
 
 # One of which nothing is known.
@@ -68,9 +68,8 @@ class Values:
 
     def new_heads(self, kind, firsts):
         """The heads of the news that may be of a kind, with first parts of some classes, or of all."""
-        orders = [self.model.mixed_order(list(names)) for names in self.makers.news
-                  if firsts is None or names[0] in firsts]
-        return [("thing", order) for order in orders if order_meets(order, kind)]
+        return [("thing", self.model.mixed_order(list(names))) for names in self.makers.news
+                if (firsts is None or names[0] in firsts) and new_meets(self.scope, names, kind)]
 
     def order_of_kind(self, kind):
         """The classes of a further value of just a kind."""
