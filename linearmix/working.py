@@ -61,9 +61,8 @@ class Run:
 
     def leave_all(self):
         """Leaves what is under way as if it had not been begun."""
-        for task in self.tasks:
-            if task[0] == "keep":
-                task[1].state = "fresh"
+        for once in [task[1] for task in self.tasks if task[0] == "keep"]:
+            once.state = "fresh"
         self.tasks = []
         self.worths = []
         self.depth = 0
@@ -148,8 +147,9 @@ def task_leave(run, task):
 
 def task_keep(run, task):
     """What is worked once is done."""
-    task[1].state = "done"
-    task[1].worth = run.worths[-1]
+    once = task[1]
+    once.state = "done"
+    once.worth = run.worths[-1]
 
 
 def task_body(run, task):
@@ -165,7 +165,8 @@ def task_suspend(run, task):
 
 def task_evidence(run, task):
     """Works evidence."""
-    _, (label, _, inner), env = task
+    _, evidence, env = task
+    label, _, inner = evidence
     if isinstance(label, tuple):
         run.read_once(env.this.onces[label[1]])
     elif label in env.givens:
@@ -234,7 +235,8 @@ def task_val(run, task):
 
 def task_ready(run, task):
     """A val is ready."""
-    task[1].ready[task[2]] = run.worths.pop()
+    _, thing, name = task
+    thing.ready[name] = run.worths.pop()
 
 
 def task_worth(run, task):
