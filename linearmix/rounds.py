@@ -129,9 +129,17 @@ def new_faults(scope, e, where):
     for at, inner in news_of(scope, e, where):
         if broken_names(inner, ("of", NAMELESS, ())):
             rows.append((at, "override"))
-        if inner.model.missing_names(inner.model.order(NAMELESS)):
+        if new_lacks(inner.model):
             rows.append((at, "lacking"))
     return rows
+
+
+def new_lacks(model):
+    """Whether a new has a name without a body, by itself or in a first part that is below a sealed class."""
+    first = model.classes[NAMELESS].parents[0][0]
+    if model.is_below_sealed(first) and model.missing_names(model.order(first)):
+        return True
+    return model.missing_names(model.order(NAMELESS)) != []
 
 
 def maker_orders(model, makers):

@@ -4,12 +4,14 @@ import itertools
 import random
 import unittest
 
+from linearmix.checks import check
 from linearmix.errors import BadCount, BadForm, BadKind, BadPatterns, NotLetBy, TooMany
+from linearmix.found import kind_at
 from linearmix.orders import order_of
 from linearmix.shapes import missing, needless, shapes_of, tree_holds, tree_of, unsure
 from test_kinds import LOST, NO_KINDS
 from test_orders import NO_PROGRAMS
-from worlds import (A, ANY, INT, LISTS, LISTS_PROGRAM, NONE, PARAM_A, TEXT, THIS, TRUTH, UNIT, a_def, a_kind, a_val, call,
+from worlds import (A, ANY, HERE, INT, LISTS, LISTS_PROGRAM, NONE, PARAM_A, TEXT, THIS, TRUTH, UNIT, a_def, a_kind, a_val, call,
                     cls, fun, given, kparam, let, mix, name, new, num, obj, of, op, parent, part, text, then, trait, val, var)
 
 SOME = ("some",)
@@ -119,6 +121,22 @@ class ShapesTest(unittest.TestCase):
     def test_lists_are_new(self):
         shapes_of(SEQS, LIST, 1).clear()
         self.assertEqual(len(shapes_of(program=SEQS, kind=LIST, count=1)), 2)
+
+
+class LackingTest(unittest.TestCase):
+    def test_a_class_below_a_sealed_one_that_lacks_a_name(self):
+        for sealed in (True, False):
+            world = (trait("S", a_def("f", INT), sealed=sealed), cls("C", parents=(parent("S"),)),
+                     trait("T", a_def("f", INT, num(1))), obj("o", parents=(parent("C"), parent("T"))))
+            # No new has it, though a further trait brings the body; an object below it can be made.
+            self.assertEqual(check((world, then(num(1), new("C", more=("T",))))), ("lacking", (1,)) if sealed else None)
+            self.assertEqual(check((world, new("C"))), ("lacking", ()))
+            self.assertIsNone(check((world, name("o"))))
+            self.assertEqual(kind_at((world, UNIT), HERE, new("C", more=("T",)), None),
+                             ("lacking", ()) if sealed else ("found", mix(of("C"), of("T"))))
+            self.assertEqual(shapes_of((world, UNIT), of("S"), 1), [shape("o")] if sealed else [SOME])
+        itself = (cls("C", a_def("f", INT), sealed=True), trait("T", a_def("f", INT, num(1))))
+        self.assertEqual(check((itself, new("C", more=("T",)))), ("lacking", ()))
 
 
 class MissingTest(unittest.TestCase):
