@@ -14,7 +14,8 @@ class Decider:
 
     def __init__(self, scope, makers, kind, patterns):
         self.patterns = patterns
-        self.start = State(Values(scope, makers, literals_of(patterns)), kind)
+        self.start = State(Values(scope, makers, literals_of(patterns)))
+        self.spot = ((), kind)
 
     def tree(self):
         """The decision tree."""
@@ -22,21 +23,21 @@ class Decider:
 
     def built(self, state, rows):
         """The tree for the values of a state, of which those patterns alone may take some."""
-        rows = [row for row in rows if state.takes_some(self.patterns[row], ())]
+        rows = [row for row in rows if state.takes_some(self.patterns[row], self.spot)]
         if not rows:
             return ("none",)
-        if state.takes_all(self.patterns[rows[0]], ()):
+        if state.takes_all(self.patterns[rows[0]], self.spot):
             return ("leaf", rows[0])
         questions = []
         for row in rows:
-            questions.extend(open_questions(state, (), self.patterns[row]))
-        deepest = max([len(place) for place, _ in questions])
-        place = [place for place, _ in questions if len(place) == deepest][0]
-        asked = [pattern for one, pattern in questions if one == place]
-        return self.question(state, rows, place, asked)
+            questions.extend(open_questions(state, self.spot, self.patterns[row]))
+        deepest = max([len(spot[0]) for spot, _ in questions])
+        spot = [spot for spot, _ in questions if len(spot[0]) == deepest][0]
+        asked = [pattern for one, pattern in questions if one[0] == spot[0]]
+        return self.question(state, rows, spot, asked)
 
-    def question(self, state, rows, place, asked):
-        """A question at a place, for the first of patterns, or all literals of these."""
+    def question(self, state, rows, spot, asked):
+        """A question at a spot, for the first of patterns, or all literals of these."""
         word = "lit" if asked[0][0] == "lit" else "class"
         if word == "class":
             asked = asked[:1]
@@ -46,18 +47,18 @@ class Decider:
             if pattern[0] == "lit" and pattern in done or (pattern[0] == "lit") != (word == "lit"):
                 continue
             done.append(pattern)
-            yes, state = state.parted(place, pattern)
+            yes, state = state.parted(spot, pattern)
             worth = pattern[1] if pattern[0] != "is" else pattern[2]
             pairs.append((worth, self.built(yes, rows)))
         rest = None if state.is_empty() else self.built(state, rows)
-        return (word, tuple([number for _, number in place]), tuple(pairs), rest)
+        return (word, tuple([number for _, number in spot[0]]), tuple(pairs), rest)
 
 
-def open_questions(state, place, pattern):
-    """The (place, pattern) that have to be asked to know whether a pattern takes a value."""
-    if state.takes_all(pattern, place):
+def open_questions(state, spot, pattern):
+    """The (spot, pattern) that have to be asked to know whether a pattern takes a value."""
+    if state.takes_all(pattern, spot):
         return []
-    if pattern[0] != "of" or state.current.get(place) != pattern[1]:
-        return [(place, pattern)]
-    return [row for one, inner in state.inner_places(place, pattern)
+    if pattern[0] != "of" or state.current.get(spot[0]) != pattern[1]:
+        return [(spot, pattern)]
+    return [row for one, inner in state.inner_rows(spot, pattern)
             for row in open_questions(state, one, inner)]

@@ -32,7 +32,7 @@ class TreeCheck:
     def holds(self, thing):
         """Whether any object is a right tree."""
         literals = literals_of(self.patterns) + literals_in(thing)
-        return self.is_right(thing, State(Values(self.scope, self.makers, literals), self.kind))
+        return self.is_right(thing, State(Values(self.scope, self.makers, literals)))
 
     def is_right(self, thing, state):
         """Whether any object is a right tree for the values of a state."""
@@ -44,10 +44,10 @@ class TreeCheck:
             return len(thing) == 1 and self.takes_none(len(self.patterns), state)
         if thing[0] not in ("class", "lit") or len(thing) != 4:
             return False
-        place = self.place_of(thing[1], state)
-        if place is None or not isinstance(thing[2], tuple) or not thing[2]:
+        spot = self.spot_of(thing[1], state)
+        if spot is None or not isinstance(thing[2], tuple) or not thing[2]:
             return False
-        return self.is_right_question(thing, place, state)
+        return self.is_right_question(thing, spot, state)
 
     def is_right_leaf(self, thing, state):
         """Whether a leaf tells the first pattern that takes all values of a state."""
@@ -55,37 +55,37 @@ class TreeCheck:
             return False
         if not self.takes_none(thing[1], state):
             return False
-        return state.is_empty() or state.takes_all(self.patterns[thing[1]], ())
+        return state.is_empty() or state.takes_all(self.patterns[thing[1]], ((), self.kind))
 
     def takes_none(self, many, state):
         """Whether the first so many patterns take no value of a state."""
-        return state.is_empty() or not any([state.takes_some(pattern, ())
+        return state.is_empty() or not any([state.takes_some(pattern, ((), self.kind))
                                             for pattern in self.patterns[:many]])
 
-    def place_of(self, path, state):
-        """The place that any object leads to as a path; None if to none."""
+    def spot_of(self, path, state):
+        """The spot that any object leads to as a path; None if to none."""
         if not isinstance(path, tuple):
             return None
-        place = ()
+        spot = ((), self.kind)
         for number in path:
-            name = state.current.get(place)
+            name = state.current.get(spot[0])
             if name is None or not is_integer(number):
                 return None
             if not 0 <= number < len(self.model.classes[name].vparams):
                 return None
-            place = place + ((name, number),)
-        return place
+            spot = state.inner_spot(spot, name, number)
+        return spot
 
-    def is_right_question(self, thing, place, state):
-        """Whether a question at a place, and the trees behind it, are right."""
+    def is_right_question(self, thing, spot, state):
+        """Whether a question at a spot, and the trees behind it, are right."""
         word, _, pairs, rest = thing
         for pair in pairs:
             if not isinstance(pair, tuple) or len(pair) != 2:
                 return False
-            pattern = self.asked_by(word, pair[0], place, state)
+            pattern = self.asked_by(word, pair[0], spot[0], state)
             if pattern is None:
                 return False
-            yes, state = state.parted(place, pattern)
+            yes, state = state.parted(spot, pattern)
             if not self.is_right(pair[1], yes):
                 return False
         return state.is_empty() if rest is None else self.is_right(rest, state)

@@ -50,11 +50,14 @@ class ShapeKinds:
         """The kinds of the vparams of a class, as they have to be for a kind, by their uppers."""
         key = repr((kind, name))
         if key not in self.known_fields:
-            own = first_seen(self.model, kind, name)
-            if own is None:
-                own = ("of", name, self.kinds_for(kind, name))
+            own = self.own_kind(kind, name)
             self.known_fields[key] = [self.field(own, told) for _, told in self.model.classes[name].vparams]
         return self.known_fields[key]
+
+    def own_kind(self, kind, name):
+        """The kind of a class as it has to be for a kind."""
+        seen = first_seen(self.model, kind, name)
+        return ("of", name, self.kinds_for(kind, name)) if seen is None else seen
 
     def kinds_for(self, kind, name):
         """The kind arguments of a class as they have to be for a kind, else their uppers."""

@@ -36,7 +36,7 @@ class Usefulness:
         kinds, rows, row = asked
         for head in heads:
             names = self.classes_asked(head, (row,) + rows)
-            fields = [field for name in names for field in self.thought.kinds.fields(kinds[0], name)]
+            fields = [field for name in names for field in self.thought.fields(kinds[0], head, name)]
             own = self.within(head, kinds[0], row, names)
             if own is None:
                 continue

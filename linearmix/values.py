@@ -1,7 +1,7 @@
 """The values that are thought of where patterns are held against a kind (point 24).
 
-A value is told by its head: a literal, or a thing with an order of classes; what
-stands in its vparams is thought of by itself.
+A value is told by its head: a literal, or a thing with an order of classes and, where
+that is known, a kind of its own; what stands in its vparams is thought of by itself.
 """
 
 from linearmix.insides import patterns_in
@@ -10,7 +10,7 @@ from linearmix.makers import may_be_of, new_meets
 from linearmix.shapekinds import TRUTHS, ShapeKinds
 
 # One of which nothing is known.
-FURTHER = ("thing", ())
+FURTHER = ("thing", (), None)
 
 
 def literals_of(patterns):
@@ -53,22 +53,25 @@ class Values:
             return list(TRUTHS)
         if self.kinds.is_sealed(kind):
             names = self.kinds.classes(kind)
-            made = [("thing", self.model.order(name)) for name in names]
-            return made + self.new_heads(kind, names)
+            return [self.class_head(kind, name) for name in names] + self.new_heads(kind, names)
         found = [("lit", literal) for literal in self.literals if is_lower(self.scope, (literal[0],), kind)]
-        found.append(("thing", self.order_of_kind(kind)))
+        found.append(("thing", self.order_of_kind(kind), kind if kind[0] == "of" else None))
         if kind in (("int",), ("text",)):
             return found
         found.extend(self.new_heads(kind, None))
         for name in self.model.classes:
             is_open = not self.model.is_object(name) and not self.model.is_below_sealed(name)
             if (is_open or name in self.makers.names) and may_be_of(self.scope, name, kind):
-                found.append(("thing", self.model.order(name)))
+                found.append(self.class_head(kind, name))
         return found
+
+    def class_head(self, kind, name):
+        """The head of the values of just a class, or right below it, that are of a kind."""
+        return ("thing", self.model.order(name), self.kinds.own_kind(kind, name))
 
     def new_heads(self, kind, firsts):
         """The heads of the news that may be of a kind, with first parts of some classes, or of all."""
-        return [("thing", self.model.mixed_order(list(names))) for names in self.makers.news
+        return [("thing", self.model.mixed_order(list(names)), None) for names in self.makers.news
                 if (firsts is None or names[0] in firsts) and new_meets(self.scope, names, kind)]
 
     def order_of_kind(self, kind):
@@ -78,6 +81,10 @@ class Values:
         if kind[0] == "with":
             return tuple([name for part in kind[1] for name in self.order_of_kind(part)])
         return ()
+
+    def fields(self, kind, head, name):
+        """The kinds of the vparams of a class in values with a head, which are of a kind."""
+        return self.kinds.fields(kind if head[2] is None else head[2], name)
 
     def takes(self, pattern, head):
         """Whether a pattern, what stands within it left aside, takes values with a head."""
