@@ -85,7 +85,7 @@ class Run:
         """The last so many worths, which are taken away."""
         start = len(self.worths) - many
         worths = self.worths[start:]
-        self.worths = self.worths[:start]
+        del self.worths[start:]
         return worths
 
     def begin(self, owner, name, where, env):
