@@ -191,7 +191,7 @@ class BodyForm:
     def fits(self, sort, part):
         """Whether any object may stand in a c where a sort is wanted; of c's they are tuples."""
         tables, bodies, singles, _ = self.core
-        if sort in ("c", "cs", "locals"):
+        if sort in ("c", "cs", "local numbers"):
             return isinstance(part, tuple)
         if sort in ("integer", "number", "new local"):
             return is_integer(part) and (sort == "integer" or part >= 0)

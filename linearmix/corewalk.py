@@ -17,7 +17,7 @@ CFORMS = {
     "now": ("c",),
     "once": ("label", "c"),
     "first": ("c",),
-    "fun": ("locals", "c"),
+    "fun": ("local numbers", "c"),
     "apply": ("c", "cs"),
     "if": ("c", "c", "c"),
     "let": ("new local", "c", "c"),

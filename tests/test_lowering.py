@@ -2,6 +2,7 @@
 
 import unittest
 
+from linearmix.better import better
 from linearmix.checks import check
 from linearmix.cores import is_core, run_core
 from linearmix.errors import BadForm, NotLetBy, TooMany
@@ -9,7 +10,7 @@ from linearmix.lowering import lowered
 from linearmix.runs import run, steps_of
 from test_kinds import LOST
 from test_orders import NO_PROGRAMS
-from wilds import wild_programs
+from wilds import changed_programs, wild_programs
 from worlds import (A, ALL_PROGRAMS, ANY, B, FISHES, INT, LISTS, PARAM_A, TEXT, THIS, UNIT, a_def, a_kind, a_val, above,
                     call, cls, extend, fun, given, kparam, lazy, let, name, new, num, obj, of, op, own_given, parent, text,
                     then, trait, val)
@@ -52,6 +53,15 @@ class LoweredTest(LoweredCase):
     def test_wild_programs(self):
         for program in wild_programs(200, 60):
             self.same(program)
+
+    def test_changed_programs(self):
+        for seed in range(24):
+            for program in changed_programs(seed, 14):
+                core = lowered(program)
+                outcome = run(program, 5000)
+                if outcome[0] not in ("steps", "deep"):
+                    self.assertEqual(run_core(core, 100000), outcome)
+                    self.assertEqual(run_core(better(core), 100000), outcome)
 
     def test_names_that_are_both_val_and_lazy(self):
         world = (cls("C", a_val("v", INT, num(1))), cls("D", lazy("v", INT, num(2))), cls("E", own_given("v", INT, num(3))))

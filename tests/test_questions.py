@@ -8,7 +8,7 @@ from linearmix.questions import asks, hidden, never_reached, ready_order, reache
 from linearmix.runs import calls_of, run
 from test_kinds import LOST
 from test_orders import NO_NAMES, NO_PROGRAMS, program
-from wilds import wild_programs
+from wilds import changed_programs, wild_programs
 from worlds import (A, ALL_PROGRAMS, ANY, FISHES, FISHES_PROGRAM, INT, PARAM_A, TEXT, THIS, UNIT, a_def, a_kind, a_val, above,
                     call, cls, extend, fun, given, kparam, lazy, let, name, new, num, obj, of, op, own_given, parent, part,
                     text, then, trait, val)
@@ -283,7 +283,8 @@ class RoundsTest(QuestionCase):
 
 class NeverToldTest(unittest.TestCase):
     def test_a_run_never_tells_what_these_say_it_can_not(self):
-        for whole in ALL_PROGRAMS + tuple(wild_programs(500, 80)):
+        changed = [whole for seed in range(100, 112) for whole in changed_programs(seed, 12)]
+        for whole in ALL_PROGRAMS + tuple(wild_programs(500, 40)) + tuple(changed):
             word, told, _ = run(whole, 5000)
             unready = unready_reads(whole)
             if word == "unready":
@@ -292,7 +293,7 @@ class NeverToldTest(unittest.TestCase):
                 rings = rounds(whole)
             except TooMany:
                 rings = None
-            if word == "round" and rings is not None and not told.startswith("x"):
+            if word == "round" and rings is not None and (" " in told or told in [one[1] for one in whole[0]]):
                 row = tuple(told.split()) if " " in told else ("", told)
                 self.assertTrue([ring for ring in rings if row in ring], (whole, told))
             extensions = [one[1] for one in whole[0] if one[0] == "extend"]

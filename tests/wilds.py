@@ -1,10 +1,13 @@
 """Programs that are made by chance from a seed, always the same ones, for tests of whole properties."""
 
+import collections
 import random
 
 from linearmix.checks import check
 from linearmix.forms import is_program
-from worlds import (ANY, INT, TEXT, THIS, TRUTH, UNIT, a_def, a_val, above, call, cls, extend, fun, given, lazy, name,
+from linearmix.grammar import OPTIONS
+from linearmix.walks import is_atom, parts_in, sorts_in
+from worlds import (ALL_PROGRAMS, ANY, INT, TEXT, THIS, TRUTH, UNIT, a_def, a_val, above, call, cls, extend, fun, given, lazy, name,
                     new, num, obj, of, op, own_given, text, then, trait, val)
 
 DEFS = {
@@ -265,5 +268,51 @@ def wild_programs(first, many):
         program = Wild(first).program()
         first += 1
         if is_program(program) and check(program) is None:
+            found.append(program)
+    return found
+
+
+# What is exchanged for another one of its sort.
+CHANGED = ("pattern", "tree", "kind", "member", "truth", "sign", "kinds or none", "use", "member use", "class",
+           "class or object", "parents", "members", "case")
+
+
+def nodes(sort, thing, path):
+    """(sort, thing, path) of all that stands in a thing of a sort."""
+    if thing is None:
+        return []
+    sort = OPTIONS.get(sort, sort)
+    found = [(sort, thing, path)]
+    if not is_atom(sort):
+        for at, (inner, one) in enumerate(zip(sorts_in(sort, thing), parts_in(sort, thing))):
+            found.extend(nodes(inner, one, path + (at,)))
+    return found
+
+
+def exchanged(sort, thing, path, other):
+    """A thing of a sort with another one at a path."""
+    if not path:
+        return other
+    sort = OPTIONS.get(sort, sort)
+    parts = parts_in(sort, thing)
+    head = thing[:len(thing) - len(parts)]
+    parts[path[0]] = exchanged(sorts_in(sort, thing)[path[0]], parts[path[0]], path[1:], other)
+    return head + tuple(parts)
+
+
+def changed_programs(seed, tries):
+    """Programs that are let by: one of the world's, changed here and there, again and again."""
+    r = random.Random(seed)
+    program = r.choice(ALL_PROGRAMS)
+    pool = collections.defaultdict(list)
+    for one in (program, r.choice(ALL_PROGRAMS)):
+        for sort, thing, _ in nodes("program", one, ()):
+            pool[sort].append(thing)
+    found = []
+    for _ in range(tries):
+        sort, _, path = r.choice([node for node in nodes("program", program, ()) if node[0] in CHANGED])
+        other = exchanged("program", program, path, r.choice(pool[sort]))
+        if other != program and is_program(other) and check(other) is None:
+            program = other
             found.append(program)
     return found
