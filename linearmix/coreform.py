@@ -208,7 +208,9 @@ class BodyForm:
         if sort == "tables":
             return (isinstance(part, tuple) and all([is_number(one, len(tables)) for one in part])
                     and are_ascending(part))
-        return is_number(part, len({"body": bodies, "table": tables, "single": singles}[sort]))
+        if sort == "body":
+            return is_number(part, len(bodies))
+        return is_number(part, len(tables if sort == "table" else singles))
 
 
 def is_core_form(thing):
