@@ -7,6 +7,7 @@ from linearmix.cores import begun_bodies, is_core, run_core
 from linearmix.errors import BadCore, BadCount
 from linearmix.lowering import lowered
 from test_cores import COD, FORMS, NO_COUNTS, ONE, SHOWS, THIS, UNIT, YES, main
+from wildcores import wild_cores
 from wilds import wild_programs
 from worlds import ALL_PROGRAMS
 
@@ -215,6 +216,24 @@ class BetterTest(unittest.TestCase):
             for work in WAYS:
                 self.assertEqual(work(best), best)
             self.assertLessEqual(core_size(best), core_size(core))
+
+    def test_cores_made_by_chance(self):
+        words = set()
+        for core in wild_cores(600):
+            self.assertIs(is_core(core), True, core)
+            word, told, shown = run_core(core, 1500)
+            words.add(word)
+            self.assertIs(reach_holds(core, reach(core)), True)
+            self.assertLessEqual(set(begun_bodies(core, 1500)), set(reach(core)[0]))
+            for work in WAYS:
+                other = work(core)
+                self.assertIs(is_core(other), True, core)
+                if word not in ("stuck", "steps", "deep"):
+                    self.assertEqual(run_core(other, 1500), (word, told, shown), core)
+            best = better(core)
+            for work in WAYS:
+                self.assertEqual(work(best), best)
+        self.assertLessEqual({"value", "stuck", "steps", "round"}, words)
 
     def test_deep_cs(self):
         c = UNIT
