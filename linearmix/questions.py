@@ -75,7 +75,8 @@ def ready_order(program, name):
 def unready_reads(program):
     """The ascending (class, val) that may be read ahead of being ready."""
     script = let_by_script(program)
-    found = [row for names in script.parts_made() for row in UnreadyReads(script, names).rows()]
+    known = {}
+    found = [row for names in script.parts_made() for row in UnreadyReads(script, names, known).rows()]
     return sorted({row for row in found})
 
 

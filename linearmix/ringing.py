@@ -60,38 +60,44 @@ def all_rings(script):
     for where in once_worked(script):
         row = ("", where[0]) if len(where) == 1 else where
         asked[row] = Asking(script, made).asked_by(where)
+    asking = {row: [] for row in asked}
+    for row in asked:
+        for other in asked[row]:
+            asking[other].append(row)
     found = []
     for start in sorted(list(asked)):
-        found.extend(rings_from(asked, start, RINGS_MOST + 1 - len(found)))
+        found.extend(rings_from(asked, asking, start, RINGS_MOST + 1 - len(found)))
         if len(found) > RINGS_MOST:
             raise TooMany("there are more rings than are told")
     return sorted(found)
 
 
-def rings_from(asked, start, most):
+def rings_from(asked, asking, start, most):
     """The rings of which a row is the least, as far as so many."""
     found = []
     ways = [(start,)]
     while ways and len(found) < most:
         way = ways.pop()
+        # Only what still leads back is gone into: so each way comes to be a ring.
+        back = leading_back(asking, way)
         for row in asked[way[-1]]:
             if row == start:
                 found.append(way)
-            elif row > start and row not in way and leads_to(asked, row, start, way):
+            elif row in back:
                 ways.append(way + (row,))
     return found
 
 
-def leads_to(asked, row, start, way):
-    """Whether a row leads back to the start of a way, by rows that are greater and not on it."""
-    seen = {row: True}
-    rest = [row]
+def leading_back(asking, way):
+    """The rows that lead to the start of a way, by rows that are greater and not on it."""
+    start = way[0]
+    on_way = {row: True for row in way}
+    found = {}
+    rest = [start]
     while rest:
         last = rest.pop()
-        for other in asked[last]:
-            if other == start:
-                return True
-            if other > start and other not in way and other not in seen:
-                seen[other] = True
-                rest.append(other)
-    return False
+        for row in asking[last]:
+            if row > start and row not in on_way and row not in found:
+                found[row] = True
+                rest.append(row)
+    return found

@@ -5,69 +5,85 @@ from linearmix.model import form_of
 THIS = ("this",)
 
 
-class UnreadyReads:
-    """Looks at what is made of some parts, or at an object, told by a tuple of its name."""
+class BodyLook:
+    """What a body asks of this: members by their names, supers; whether this stands otherwise; names of objects."""
 
-    def __init__(self, script, names):
+    def __init__(self, node):
+        self.members = []
+        self.supers = []
+        self.objects = []
+        self.is_loose = False
+        self.look(node)
+
+    def look(self, node):
+        """Looks at a tree, and at all within it."""
+        e, more = node.tree[0], node.tree[3]
+        parts = list(node.parts)
+        if e[0] in ("val", "call") and e[1] == THIS and not (e[0] == "call" and more[0] == "extend"):
+            self.members.append(e[2])
+            parts = parts[1:]
+        elif e[0] == "super":
+            self.supers.append(e[1])
+        elif e == THIS:
+            self.is_loose = True
+        elif e[0] == "name" and e[1] not in node.scope.reach:
+            self.objects.append(e[1])
+        self.members.extend(own_givens(node))
+        for part in parts:
+            self.look(part)
+
+
+class UnreadyReads:
+    """Looks at what is made of some parts, or at an object, told by a tuple of its name.
+
+    known are the looks at bodies that were looked at already.
+    """
+
+    def __init__(self, script, names, known):
         self.script = script
         self.model = script.model
         self.order = self.model.mixed_order(list(names))
         self.own_name = names[0] if self.model.is_object(names[0]) else None
-        self.unready = []
+        self.known = known
+        self.unready = {}
         self.found = {}
-        self.seen = {}
 
     def rows(self):
         """(class, val) of the vals that may be read ahead."""
         vals = self.script.val_bodies(self.order)
         for at, where in enumerate(vals):
-            self.unready = vals[at:]
-            self.seen = {}
+            self.unready = {row: True for row in vals[at:]}
+            seen = {}
             rest = [where]
             while rest:
                 body = rest.pop()
-                if body not in self.seen:
-                    self.seen[body] = True
-                    rest.extend(self.look(self.script.bodies[body], body[0]))
+                if body not in seen:
+                    seen[body] = True
+                    rest.extend(self.bodies_from(body))
         return list(self.found)
 
-    def look(self, node, owner):
-        """Looks at a tree in a body of a class; tells the bodies that it finds."""
-        e, more = node.tree[0], node.tree[3]
-        found = []
-        parts = list(node.parts)
-        if e[0] in ("val", "call") and e[1] == THIS and not (e[0] == "call" and more[0] == "extend"):
-            found.extend(self.asked(e[2]))
-            parts = parts[1:]
-        elif e[0] == "super":
-            behind = self.order[self.order.index(owner) + 1:]
-            found.append((self.model.first_body(behind, e[1]), e[1]))
-        elif e == THIS or e[0] == "name" and self.is_own_name(node):
-            self.note(self.unready)
-        for name in own_givens(node):
-            found.extend(self.asked(name))
-        for part in parts:
-            found.extend(self.look(part, owner))
+    def look_at(self, where):
+        """The look at a body."""
+        if where not in self.known:
+            self.known[where] = BodyLook(self.script.bodies[where])
+        return self.known[where]
+
+    def bodies_from(self, where):
+        """The bodies that one finds; what it reads that is not ready is noted."""
+        look = self.look_at(where)
+        if look.is_loose or self.own_name in look.objects:
+            for row in self.unready:
+                self.found[row] = True
+        behind = self.order[self.order.index(where[0]) + 1:]
+        found = [(self.model.first_body(behind, name), name) for name in look.supers]
+        for name in look.members:
+            owner = self.model.first_body(self.order, name)
+            member = self.model.classes[owner].table[name]
+            if form_of(member) == "val" and (owner, name) in self.unready:
+                self.found[(owner, name)] = True
+            if member[0] != "vparam":
+                found.append((owner, name))
         return found
-
-    def is_own_name(self, node):
-        """Whether a name is that of the object that is being made."""
-        return node.tree[0][1] == self.own_name and self.own_name not in node.scope.reach
-
-    def asked(self, name):
-        """The body, if any, that a member of this has for a name; a val that is not ready is noted."""
-        owner = self.model.first_body(self.order, name)
-        member = self.model.classes[owner].table[name]
-        if member[0] == "vparam":
-            return []
-        if form_of(member) == "val" and (owner, name) in self.unready:
-            self.note([(owner, name)])
-        return [(owner, name)]
-
-    def note(self, rows):
-        """Notes vals as being read ahead."""
-        for row in rows:
-            self.found[row] = True
 
 
 def evidences_in(node):
