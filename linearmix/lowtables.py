@@ -53,7 +53,7 @@ class Lowering:
 
     def order(self, number):
         """The order of the objects of a table."""
-        return self.model.mixed_order(list(self.made[number]))
+        return self.script.order(self.made[number])
 
     def tables_of(self, name):
         """The numbers of the tables whose objects are of a class."""

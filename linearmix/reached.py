@@ -16,6 +16,8 @@ class Reading:
         self.model = script.model
         self.made = made
         self.bodies = {}
+        self.names = {}
+        self.supers = {}
         self.rest = []
 
     def read_all(self):
@@ -63,7 +65,7 @@ class Reading:
 
     def add_made(self, names):
         """The vals' bodies of parts, and the args of their parents, are reached."""
-        order = self.model.mixed_order(list(names))
+        order = self.script.order(names)
         for where in self.script.val_bodies(order):
             self.add(where)
         for where in self.script.arg_bodies(names[0]):
@@ -71,15 +73,22 @@ class Reading:
 
     def read_name(self, name):
         """A member of a name is asked of something."""
-        for names in self.made:
-            self.add_member(self.model.mixed_order(list(names)), name)
+        if name not in self.names:
+            self.names[name] = True
+            for names in self.made:
+                self.add_member(self.script.order(names), name)
 
     def read_super(self, owner, name):
         """A member of a name is asked behind a class."""
-        for names in self.made:
-            order = self.model.mixed_order(list(names))
-            if owner in order:
-                self.add_member(order[order.index(owner) + 1:], name)
+        if (owner, name) not in self.supers:
+            self.supers[(owner, name)] = True
+            for names in self.made:
+                self.add_behind(self.script.order(names), owner, name)
+
+    def add_behind(self, order, owner, name):
+        """The body that an order has for a name behind a class, if that is in it, is reached."""
+        if owner in order:
+            self.add_member(order[order.index(owner) + 1:], name)
 
     def read_object(self, name):
         """An object is named."""
@@ -99,32 +108,19 @@ class Reached(Reading):
 
     def __init__(self, script):
         super().__init__(script, {})
-        self.asked = {}
-        self.behind = {}
         self.add(())
         self.read_all()
-
-    def read_name(self, name):
-        """A member of a name is asked of something."""
-        self.asked[name] = True
-        super().read_name(name)
-
-    def read_super(self, owner, name):
-        """A member of a name is asked behind a class."""
-        self.behind[(owner, name)] = True
-        super().read_super(owner, name)
 
     def make(self, names):
         """An object of parts is made."""
         if names not in self.made:
             self.made[names] = True
             self.add_made(names)
-            order = self.model.mixed_order(list(names))
-            for name in self.asked:
+            order = self.script.order(names)
+            for name in self.names:
                 self.add_member(order, name)
-            for owner, name in self.behind:
-                if owner in order:
-                    self.add_member(order[order.index(owner) + 1:], name)
+            for owner, name in self.supers:
+                self.add_behind(order, owner, name)
 
     def told(self):
         """(class, name) of the bodies, main and args of parents left aside."""

@@ -22,6 +22,7 @@ class Script:
         if told is not None:
             raise Fault(told[0], told[1])
         self.makers = Makers(self.model, [])
+        self.orders = {}
         finder = Finder(self.makers)
         self.bodies = {}
         for body in all_bodies(self.model):
@@ -36,6 +37,12 @@ class Script:
         if owner in self.model.classes:
             return self.model.classes[owner].table[name]
         return [member for member in self.definition(owner)[5] if member[1] == name][0]
+
+    def order(self, names):
+        """The order of an object of parts, or of an object, told by a tuple of its name."""
+        if names not in self.orders:
+            self.orders[names] = self.model.mixed_order(list(names))
+        return self.orders[names]
 
     def parts_made(self):
         """The names of the parts of all news, and, as one part, the names of all objects."""

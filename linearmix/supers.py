@@ -32,7 +32,7 @@ def hidden_rows(script):
     """The ascending (class, name, class) of hidden bodies, and of those worked instead."""
     rows = []
     for names in script.parts_made():
-        order = script.model.mixed_order(list(names))
+        order = script.order(names)
         worked = worked_bodies(script, order)
         for owner, name in bodies_of(script, order):
             if (owner, name) not in worked:

@@ -42,7 +42,7 @@ class UnreadyReads:
     def __init__(self, script, names, known):
         self.script = script
         self.model = script.model
-        self.order = self.model.mixed_order(list(names))
+        self.order = script.order(names)
         self.own_name = names[0] if self.model.is_object(names[0]) else None
         self.known = known
         self.unready = {}

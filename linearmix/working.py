@@ -192,7 +192,7 @@ def task_given(run, task):
 def task_make(run, task):
     """Begins to make an object, its own args being there."""
     _, names, many, is_defined = task
-    order = run.model.mixed_order(list(names))
+    order = run.script.order(names)
     thing = Thing(names, order, is_defined)
     run.made.append(names[0])
     run.add([("vparams", thing, names[0], many), ("fill", thing), ("worth", thing)])
