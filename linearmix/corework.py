@@ -2,7 +2,7 @@
 
 from linearmix.corethings import CoreFun, Instance, Kept, Late, Stuck
 from linearmix.faults import Ended
-from linearmix.things import UNIT, are_equal, op_worth
+from linearmix.things import UNIT, op_worth
 
 
 def work_own(machine, c, frame):

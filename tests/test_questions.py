@@ -9,9 +9,9 @@ from linearmix.runs import calls_of, run
 from test_kinds import LOST
 from test_orders import NO_NAMES, NO_PROGRAMS, program
 from wilds import changed_programs, wild_programs
-from worlds import (A, ALL_PROGRAMS, ANY, FISHES, FISHES_PROGRAM, INT, PARAM_A, TEXT, THIS, UNIT, a_def, a_kind, a_val, above,
-                    call, cls, extend, fun, given, kparam, lazy, let, name, new, num, obj, of, op, own_given, parent, part,
-                    text, then, trait, val)
+from worlds import (ALL_PROGRAMS, ANY, FISHES, FISHES_PROGRAM, INT, TEXT, THIS, UNIT, a_def, a_kind, a_val, above, call,
+                    cls, extend, fun, given, lazy, let, name, new, num, obj, of, op, own_given, parent, text, then, trait,
+                    val)
 
 DOING = (hidden, unready_reads, reached, never_reached, rounds)
 

@@ -10,7 +10,7 @@ from linearmix.runs import calls_of, first_unlike, reads, run, steps_of, things_
 from test_kinds import LOST
 from test_orders import NO_PROGRAMS
 from wilds import wild_programs
-from worlds import (A, ALL_PROGRAMS, ANY, FISHES, FISHES_PROGRAM, INT, LISTS, PARAM_A, SHOWS_PROGRAM, TEXT, THIS, TRUTH,
+from worlds import (A, ALL_PROGRAMS, ANY, FISHES, FISHES_PROGRAM, INT, LISTS, PARAM_A, SHOWS_PROGRAM, TEXT, THIS,
                     UNIT, a_def, a_val, above, call, cls, extend, fun, given, let, lazy, name, new, num, obj, of, op,
                     own_given, parent, text, then, trait, val)
 

@@ -11,8 +11,8 @@ from linearmix.orders import order_of
 from linearmix.shapes import missing, needless, shapes_of, tree_holds, tree_of, unsure
 from test_kinds import LOST, NO_KINDS
 from test_orders import NO_PROGRAMS
-from worlds import (A, ANY, HERE, INT, LISTS, LISTS_PROGRAM, NONE, PARAM_A, TEXT, THIS, TRUTH, UNIT, a_def, a_kind, a_val, call,
-                    cls, fun, given, kparam, let, mix, name, new, num, obj, of, op, parent, part, text, then, trait, val, var)
+from worlds import (A, ANY, HERE, INT, LISTS, LISTS_PROGRAM, NONE, PARAM_A, TEXT, TRUTH, UNIT, a_def, a_kind, a_val,
+                    cls, fun, given, kparam, let, mix, name, new, num, obj, of, op, parent, part, text, then, trait, val)
 
 SOME = ("some",)
 NO, YES = ("lit", ("truth", False)), ("lit", ("truth", True))
