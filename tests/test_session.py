@@ -8,7 +8,8 @@ from linearmix.runs import run
 from linearmix.session import Session
 from test_found import NO_TREES
 from wilds import Wild
-from worlds import (ANY, CAGES, FISHES, INT, TEXT, THIS, UNIT, a_def, a_val, call, cls, extend, fun, given, lazy, let, name, new, num, obj, of, op, own_given, parent, part, text, then, trait, val)
+from worlds import (ANY, CAGES, FISHES, INT, TEXT, THIS, UNIT, a_def, a_val, call, cls, extend, fun, given, lazy, let, name,
+                    new, num, obj, of, op, own_given, parent, part, text, then, trait, val)
 
 NO_LINE_NAMES = ("", "9a", "a_b", "of", "this", "Cod", "abcdefghijklm", 7, True, (), ["c"], {}, "-0")
 
