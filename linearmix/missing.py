@@ -91,15 +91,17 @@ class Search:
         return (WILD,) * many
 
     def meets_some(self, pattern, kind):
-        """Whether a pattern takes some value of a kind; of one that is not closed, the further ones."""
-        if is_wild(pattern):
+        """Whether a pattern takes what some of a kind stands for: all values, or the further ones."""
+        return self.takes_any(pattern, kind) if self.kinds.is_closed(kind) else self.takes_all(pattern, kind)
+
+    def takes_any(self, pattern, kind):
+        """Whether a pattern that is let for a kind takes some value of it."""
+        if is_wild(pattern) or not self.kinds.is_closed(kind):
             return True
-        if not self.kinds.is_closed(kind):
-            return self.takes_all(pattern, kind)
         for head in self.heads(kind):
             fields = self.kinds.fields(kind, head[1]) if head[0] == "of" else []
             patterns = self.within(head, kind, pattern, len(fields))
-            if patterns is not None and all([self.meets_some(one, field)
+            if patterns is not None and all([self.takes_any(one, field)
                                              for one, field in zip(patterns, fields)]):
                 return True
         return False

@@ -5,7 +5,8 @@ from linearmix.errors import BadForm, BadName, BadNumber, Full, NothingToUndo, N
 from linearmix.faults import Fault
 from linearmix.finding import Finder, leaving
 from linearmix.makers import Makers, news_in
-from linearmix.rounds import fault_in_expression
+from linearmix.model import Model
+from linearmix.rounds import first_fault
 from linearmix.scopes import outward
 from linearmix.scripts import Script
 from linearmix.sites import main_scope
@@ -37,6 +38,11 @@ def script_of(rows):
     except Fault as fault:
         raise NotLetBy((fault.word, fault.where)) from None
     return script
+
+
+def where_in_last(where, many):
+    """A place in main within the line behind so many, or one in a definition, where a super is told, as it is."""
+    return where if where and isinstance(where[0], str) else where[many:]
 
 
 def line_nodes(script, many):
@@ -84,7 +90,7 @@ class Session:
         rows = self.rows + [("line", name, e)]
         need_program_of(rows)
         scope = self.scope_here()
-        node = self.found_here(e, scope)
+        node = self.found_here(rows, scope)
         try:
             leaving(node.kind, scope, main_scope(scope.model), ())
         except Fault:
@@ -119,8 +125,9 @@ class Session:
     def kind(self, e):
         """The kind that is found for an expression behind the lines."""
         need_form("tree", e)
-        need_program_of(self.rows + [("line", None, e)])
-        return outward(self.found_here(e, self.scope_here()).kind)
+        rows = self.rows + [("line", None, e)]
+        need_program_of(rows)
+        return outward(self.found_here(rows, self.scope_here()).kind)
 
     def shown(self):
         """What the lines showed."""
@@ -148,11 +155,12 @@ class Session:
         name = self.lines[-1].name
         return node.scope if name is None else node.scope.with_name(name, "value", node.kind)
 
-    def found_here(self, e, scope):
-        """The found tree of an expression; NotLetBy, if it is not let by."""
-        told = fault_in_expression(scope, e)
+    def found_here(self, rows, scope):
+        """The found tree of the expression of the last row, a line; NotLetBy, if it is not let by."""
+        told = first_fault(Model(program_of(rows)))
         if told is not None:
-            raise NotLetBy(told)
+            raise NotLetBy((told[0], where_in_last(told[1], len(self.lines))))
+        e = rows[-1][2]
         try:
             node = Finder(Makers(scope.model, news_in("tree", e))).seek(e, None, scope, ())
         except Fault as fault:

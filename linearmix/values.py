@@ -59,15 +59,33 @@ class Values:
         if kind in (("int",), ("text",)):
             return found
         found.extend(self.new_heads(kind, None))
+        return found + self.open_heads(kind)
+
+    def open_heads(self, kind):
+        """The heads of the values of a kind that are of just a class, or right below it alone."""
+        found = []
+        above = self.order_of_kind(kind)
         for name in self.model.classes:
-            is_open = not self.model.is_object(name) and not self.model.is_below_sealed(name)
-            if (is_open or name in self.makers.names) and may_be_of(self.scope, name, kind):
+            is_below = may_be_of(self.scope, name, kind)
+            if is_below and name in self.makers.names:
                 found.append(self.class_head(kind, name))
+            # One right below what stands above the kind is a further one of just the kind.
+            if self.is_open(name) and name not in above and self.makers.can_meet(self.scope, kind, name):
+                found.append(self.class_head(kind, name) if is_below else self.meeting_head(kind, name))
         return found
+
+    def is_open(self, name):
+        """Whether further things may stand right below a class or trait."""
+        return not self.model.is_object(name) and not self.model.is_below_sealed(name)
 
     def class_head(self, kind, name):
         """The head of the values of just a class, or right below it, that are of a kind."""
         return ("thing", self.model.order(name), self.kinds.own_kind(kind, name))
+
+    def meeting_head(self, kind, name):
+        """The head of the values of a kind right below a class that is not below the kind by itself."""
+        order = self.model.order(name) + self.order_of_kind(kind)
+        return ("thing", order, ("with", (self.kinds.own_kind(kind, name), kind)))
 
     def new_heads(self, kind, firsts):
         """The heads of the news that may be of a kind, with first parts of some classes, or of all."""

@@ -125,6 +125,10 @@ class CommandTest(DeskCase):
         self.wrong(NotLetBy, told, "define (object o ((Gone () ())) ())")
         self.assertEqual(self.wrong(NotLetBy, told, "line x (show (name lost))").what, ("name", (0,)))
         self.assertEqual(self.wrong(NotLetBy, told, "kind (show (name lost))").what, ("name", (0,)))
+        loud = self.desk("(trait Base () () ((def go () () () (int) none0)) no)", "(class Bare () () ((Base () ())) () no)",
+                         "(trait Loud () ((Base () ())) ((def go () () () (int) (super go none0 () none0))) no)")
+        for row in ("line x (new ((Bare () ()) (Loud () ())))", "kind (show (new ((Bare () ()) (Loud () ()))))"):
+            self.assertEqual(self.wrong(NotLetBy, loud, row).what, ("super", ("Loud", "go")))
         for row in ("given (of Eel ())", "given (var A)", "given (of Cod ((int)))", "given (part (this) K)", "given (part (c) K)"):
             self.wrong(BadKind, told, row)
         told.say("line c (new ((Cod () ((int 4)))))")

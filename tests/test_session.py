@@ -4,12 +4,13 @@ import unittest
 
 from linearmix.checks import check
 from linearmix.errors import (BadForm, BadName, BadNumber, Full, NothingToUndo, NotLetBy)
+from linearmix.found import kind_at
 from linearmix.runs import run
 from linearmix.session import Session
 from test_found import NO_TREES
 from wilds import Wild
-from worlds import (ANY, CAGES, FISHES, INT, TEXT, THIS, UNIT, a_def, a_val, call, cls, extend, fun, given, lazy, let, name,
-                    new, num, obj, of, op, own_given, parent, part, text, then, trait, val)
+from worlds import (A, ANY, CAGES, FISHES, HERE, INT, PARAM_A, TEXT, THIS, UNIT, a_def, a_kind, a_val, above, call, cls,
+                    extend, fun, given, lazy, let, name, new, num, obj, of, op, own_given, parent, part, text, then, trait, val)
 
 NO_LINE_NAMES = ("", "9a", "a_b", "of", "this", "Cod", "abcdefghijklm", 7, True, (), ["c"], {}, "-0")
 
@@ -23,6 +24,20 @@ def session(*definitions):
 
 def show(e):
     return ("show", e)
+
+
+def fun_of(e):
+    return ("fun", (), e)
+
+
+def what_of_line(rows, e):
+    """What check tells of the program with a further line, places of main within the line alone."""
+    lines = [row for row in rows if row[0] == "line"]
+    main = e
+    for _, x, one in reversed(lines):
+        main = then(one, main) if x is None else let(x, one, main)
+    word, where = check((tuple(row for row in rows if row[0] != "line"), main))
+    return (word, where if where and isinstance(where[0], str) else where[len(lines):])
 
 
 class SessionCase(unittest.TestCase):
@@ -249,11 +264,57 @@ class ErrorsTest(SessionCase):
         self.not_let_by(("path", ()), told.line, "x", let("y", ("stop", ""), num(1), kind=part("c", "K")))
         self.assertEqual(self.state(told), state)
 
+    def as_check(self, told, *lines):
+        """Lines that are not let by, for what check tells of the program with them."""
+        rows, program, shown = self.state(told)
+        for e in lines:
+            what = what_of_line(rows, e)
+            self.not_let_by(what, told.line, None, e)
+            self.not_let_by(what, told.line, "x", e)
+            self.not_let_by(what, told.kind, e)
+            self.assertEqual(self.state(told), (rows, program, shown))
+        return what
+
     def test_news_that_give_a_super_no_body(self):
-        told = session(*FISHES[:3], cls("Tom"))
-        self.not_let_by(("super", (0,)), told.line, None, show(new("Tom", more=("Loud",))))
-        self.not_let_by(("super", (0,)), told.kind, show(new("Tom", more=("Loud",))))
-        self.assertEqual(told.line(None, call(new("Cod", more=("Loud",)), "title")), ("value", '"cod!"', []))
+        bare = new("Tom", more=("Loud",))
+        due = ("super", ("Loud", "title", 0))
+        for names in ((), ("a",), ("a", None, "b")):
+            told = session(*FISHES[:3], cls("Tom"))
+            for x in names:
+                told.line(x, num(1))
+            for e in (bare, show(bare), let("y", bare, num(2)), then(num(1), show(bare)), fun_of(bare)):
+                self.assertEqual(self.as_check(told, e), due)
+            self.assertEqual(told.line(None, call(new("Cod", more=("Loud",)), "title")), ("value", '"cod!"', []))
+        # kind_at alone tells it at the new.
+        program = (FISHES[:3] + (cls("Tom"),), UNIT)
+        self.assertEqual(kind_at(program, HERE, show(bare), None), ("super", (0,)))
+        # The first super by definitions, and in its body.
+        twice = trait("Twice", a_def("title", TEXT, op("join", text(""), op("join", above("title"), above("title")))),
+                      parents=(parent("Fish"),))
+        told = session(FISHES[0], twice, FISHES[2], cls("Tom"))
+        told.line("a", num(1))
+        self.assertEqual(self.as_check(told, then(bare, new("Tom", more=("Twice",)))), ("super", ("Twice", "title", 1, 0)))
+
+    def test_what_goes_ahead_of_a_super(self):
+        bare = new("Tom", more=("Loud",))
+        told = session(*FISHES[:3], cls("Tom"), cls("Eel", parents=(parent("Fish"),)))
+        told.line("a", num(1))
+        told.line(None, num(1))
+        self.assertEqual(self.as_check(told, then(bare, name("lost"))), ("name", (1,)))
+        self.assertEqual(self.as_check(told, then(show(bare), new("Gone"))), ("class", (1,)))
+        # What is found of a kind, and what is wrong with other news, comes later.
+        self.assertEqual(self.as_check(told, op("+", text("a"), bare)), ("super", ("Loud", "title", 0)))
+        self.assertEqual(self.as_check(told, then(new("Eel"), bare)), ("super", ("Loud", "title", 0)))
+        self.assertEqual(self.as_check(told, then(new("Eel"), num(1))), ("lacking", (0,)))
+
+    def test_lines_are_not_known_where_news_are_looked_at(self):
+        # What a line of a name brings into reach has parts of which the parts of a new know nothing (12).
+        told = session(cls("Hay"), cls("Cow", a_kind("Eats", ANY, of("Hay"))), trait("Get", a_def("get", A), kparams=PARAM_A),
+                       cls("Cod", a_def("get", of("Hay"), new("Hay"))))
+        told.line("c", new("Cow"))
+        told.line("d", num(1))
+        self.assertEqual(self.as_check(told, show(new("Cod", more=(("Get", (part("c", "Eats"),)),)))), ("override", (0,)))
+        self.assertEqual(told.line(None, new("Cod", more=(("Get", (of("Hay"),)),))), ("value", "Cod()+Get", []))
 
     def test_a_kind_that_names_a_line(self):
         told = session(*CAGES)
@@ -393,8 +454,10 @@ class WildTest(SessionCase):
                 state = self.state(told)
                 try:
                     outcome = told.line(x, e)
-                except (NotLetBy, Full, BadForm):
+                except (NotLetBy, Full, BadForm) as error:
                     self.assertEqual(self.state(told), state)
+                    if isinstance(error, NotLetBy):
+                        self.assertEqual(error.what, what_of_line(state[0], e))
                     continue
                 lines += 1
                 every = every and outcome[0] == "value"
